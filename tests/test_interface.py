@@ -1,0 +1,80 @@
+"""Whether what the document lists stands in the files where it lists it."""
+
+import ast
+import importlib
+import inspect
+import pathlib
+import unittest
+
+PACKAGE = pathlib.Path(__file__).resolve().parent.parent / "tinkerhall"
+
+# For each file its functions with their parameters, and its classes with those of what they define themselves.
+FUNCTIONS = {
+    "signs": ("is_name(thing)", "is_row(thing, signs, width, most=60)", "write_steps(row)"),
+    "machines": ("step(plan, filling, standing, inputs, coming=None)", "beginning(plan, filling)",
+                 "run(plan, filling, row, comings=())"),
+    "standings": ("standings(plan, filling)", "least_table(plan, filling, lines=None)"),
+    "acting": ("acts(plan, filling)",),
+    "showings": ("comings_of(plan, filling, many)", "showings(plan, filling, row, lines=None)",
+                 "shows(plan, filling, row, sights)", "readable(plan, filling, row, line)"),
+    "cattext": ("write_catalogue(catalogue)", "read_catalogue(lines)"),
+    "tables": ("needless(kind)", "can_give(kind, condition=0)"),
+    "alone": ("alike_alone(first, second)", "hidden_ways(kind)"),
+    "plantext": ("write_plan(plan)", "read_plan(catalogue, lines)"),
+    "cones": ("cone(plan, line)", "delay(plan, entry, line)"),
+    "folding": ("blocks(plan)",),
+}
+CLASSES = {
+    ("kinds", "Kind"): ("__init__(self, signs, name, inputs, table, *, start=None, ways=(), price=0)", "keeps",
+                        "__len__(self)", "__eq__(self, other)", "spot(self, inputs, kept=0)",
+                        "tables(self, condition)", "flees(self, condition)"),
+    ("kinds", "Catalogue"): ("__init__(self, signs, kinds=())", "__getitem__", "__contains__", "__len__", "__iter__",
+                             "__eq__", "__add__"),
+    ("plans", "Plan"): ("__init__(self, catalogue, entries, places, exits)", "__getitem__", "__contains__", "__len__",
+                        "__iter__", "__eq__", "lines", "keeping", "own", "alone(kind)", "changed(self, **parts)"),
+    ("machines", "Machine"): ("__init__(self, plan, filling)", "standing", "go(self, *steps, comings=())",
+                              "fresh(self)", "copy(self)", "__eq__"),
+    ("acting", "Acting"): ("__init__(self, plan, filling)", "__bool__", "__len__", "__iter__"),
+    ("cases", "Case"): ("__init__(self, plan, kinds, placed, shelf, worlds, *, bench=())", "__len__", "__getitem__",
+                        "__iter__", "__eq__", "of(plan, kinds, placed, shelf, most, *, bench=())",
+                        "filling_in(self, world, arrangement=None)", "broken(self, world)",
+                        "swapped(self, place, arrangement=None)", "put_back(self, place, arrangement=None)",
+                        "cleared(self, place, left, arrangement=None)", "with_worlds(self, left)"),
+    ("folding", "Folded"): ("__init__(self, plan, names, kind)", "unfold(self, filling)", "fold(self, filling)"),
+}
+
+
+class InterfaceTest(unittest.TestCase):
+    def test_functions(self):
+        for name, told in FUNCTIONS.items():
+            module = importlib.import_module(f"tinkerhall.{name}")
+            for text in told:
+                function = getattr(module, text.partition("(")[0])
+                self.assertEqual(function.__name__ + str(inspect.signature(function)), text)
+                self.assertEqual(function.__module__, module.__name__)
+
+    def test_classes(self):
+        for (name, label), told in CLASSES.items():
+            module = importlib.import_module(f"tinkerhall.{name}")
+            box = getattr(module, label)
+            self.assertEqual(box.__module__, module.__name__)
+            for text in told:
+                method, _, arguments = text.partition("(")
+                self.assertIn(method, vars(box), label)
+                if arguments:
+                    self.assertEqual(str(inspect.signature(getattr(box, method))), "(" + arguments)
+
+    def test_properties(self):
+        for name, label, told in (("kinds", "Kind", ("keeps",)), ("plans", "Plan", ("lines", "keeping", "own")),
+                                  ("machines", "Machine", ("standing",))):
+            box = getattr(importlib.import_module(f"tinkerhall.{name}"), label)
+            for word in told:
+                self.assertIsInstance(vars(box)[word], property)
+
+    def test_generators_do_nothing_ahead(self):
+        for name, word in (("showings", "comings_of"), ("folding", "blocks")):
+            function = getattr(importlib.import_module(f"tinkerhall.{name}"), word)
+            self.assertTrue(inspect.isgeneratorfunction(function))
+
+    def test_the_package_itself_is_empty(self):
+        self.assertEqual(len(ast.parse((PACKAGE / "__init__.py").read_text()).body), 1)

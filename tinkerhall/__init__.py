@@ -1,0 +1,1 @@
+"""Tinkerhall: manuals of repair judged for all worlds that the news leaves."""

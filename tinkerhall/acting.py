@@ -1,0 +1,36 @@
+"""Whether a filling acts as whole."""
+
+from tinkerhall.checks import good_filling
+from tinkerhall.drives import Drive
+from tinkerhall.pairs import Pairs
+
+
+class Acting:
+    """True if the filling acts as whole; it tells a table then, otherwise a row and comings."""
+
+    def __init__(self, plan, filling):
+        pairs = _beside_own(plan, good_filling(plan, filling))
+        self.table = pairs.listed()
+        self.row = None
+        self.comings = None
+        if self.table is None:
+            self.row, self.comings = pairs.parting()
+        self._rows = () if self.table is None else self.table
+
+    def __bool__(self):
+        return self.row is None
+
+    def __len__(self):
+        return len(self._rows)
+
+    def __iter__(self):
+        return iter(self._rows)
+
+
+def acts(plan, filling):
+    """Whether the exits always show what they show for the own filling."""
+    return _beside_own(plan, good_filling(plan, filling)).listed() is not None
+
+
+def _beside_own(plan, filling):
+    return Pairs(Drive(plan, plan.own, plan.exits), Drive(plan, filling, plan.exits))
