@@ -105,3 +105,83 @@ def pair_table(plan, filling):
                 if pair not in listed:
                     listed.append(pair)
     return tuple(listed)
+
+
+def first_parting(plan, filling, lines, other, other_filling, other_lines, most):
+    """The least row of at most so many steps that parts two fillings without fleeing conditions."""
+    for many in range(1, most + 1):
+        for row in itertools.product(all_inputs(plan), repeat=many):
+            if (at_lines(plan, run(plan, filling, row, ())[-1], lines)
+                    != at_lines(other, run(other, other_filling, row, ())[-1], other_lines)):
+                return row
+    return None
+
+
+def pairs_of_two(plan, filling, other, other_filling):
+    none, other_none = (0,) * len(filling), (0,) * len(other_filling)
+    listed = [(beginning(plan, filling), beginning(other, other_filling))]
+    for first, second in listed:
+        for inputs in all_inputs(plan):
+            pair = (step(plan, filling, first, inputs, none)[1], step(other, other_filling, second, inputs, other_none)[1])
+            if pair not in listed:
+                listed.append(pair)
+    return tuple(listed)
+
+
+def shows(plan, filling, row, comings, sights):
+    shown = run(plan, filling, row, comings)
+    return all(at_lines(plan, shown[at], (line,)) == (sign,) for at, line, sign in sights)
+
+
+def can_show(plan, filling, row, sights):
+    many = [all_comings(plan, filling)] * len(row)
+    return any(shows(plan, filling, row, comings, sights) for comings in itertools.product(*many))
+
+
+def fewest_comings(plan, filling, row, sights):
+    many = [all_comings(plan, filling)] * len(row)
+    explaining = [comings for comings in itertools.product(*many) if shows(plan, filling, row, comings, sights)]
+    return min(explaining, key=lambda comings: (sum(map(sum, comings)), comings), default=None)
+
+
+def standings_by_showing(plan, filling, row, names):
+    """For each showing of a row, which can be empty, the standings that it can lead to."""
+    ends = {((), beginning(plan, filling))}
+    for inputs in row:
+        behind = set()
+        for showing, standing in ends:
+            for coming in all_comings(plan, filling):
+                shown, after = step(plan, filling, standing, inputs, coming)
+                behind.add(((*showing, at_lines(plan, shown, names)), after))
+        ends = behind
+    found = {}
+    for showing, standing in ends:
+        found.setdefault(showing, set()).add(standing)
+    return found
+
+
+def first_uncovered(plan, filling, other_filling, names, most):
+    """The least row and the first showing that only the other filling has."""
+    for many in range(1, most + 1):
+        for row in itertools.product(all_inputs(plan), repeat=many):
+            own = standings_by_showing(plan, filling, row, names)
+            left = [showing for showing in standings_by_showing(plan, other_filling, row, names) if showing not in own]
+            if left:
+                return row, min(left)
+    return None
+
+
+def shared_pairs(plan, first, second, row, names):
+    """The pairs of standings that both can have behind the row with the same showing."""
+    left = standings_by_showing(plan, first, row, names)
+    right = standings_by_showing(plan, second, row, names)
+    return tuple(sorted({(one, two) for showing in left if showing in right
+                         for one in left[showing] for two in right[showing]}))
+
+
+def first_sure_parting(plan, first, second, names, most):
+    for many in range(1, most + 1):
+        for row in itertools.product(all_inputs(plan), repeat=many):
+            if not shared_pairs(plan, first, second, row, names):
+                return row
+    return None

@@ -125,11 +125,22 @@ class FormTest(unittest.TestCase):
 
     def test_module_level(self):
         for name, tree in self.trees.items():
+            above = set()
             for node in tree.body[1 if ast.get_docstring(tree) else 0:]:
                 self.assertIsInstance(node, (ast.ImportFrom, ast.FunctionDef, ast.ClassDef, ast.Assign), name)
+                if isinstance(node, ast.FunctionDef):
+                    above.add(node.name)
                 if isinstance(node, ast.Assign):
                     self.assertIsInstance(node.targets[0], ast.Name)
-                    ast.literal_eval(node.value)
+                    self.assert_plain(node.value, above)
+
+    def assert_plain(self, value, above):
+        """A literal, or a table of functions that stand above it."""
+        if isinstance(value, ast.Dict) and value.values and isinstance(value.values[0], ast.Name):
+            self.assertLessEqual({part.id for part in value.values}, above)
+            self.assertEqual([part for part in value.keys if not isinstance(part, ast.Constant)], [])
+        else:
+            ast.literal_eval(value)
 
     def test_names(self):
         barred = (set(dir(builtins)) | NAMES_BARRED) - {"__init__"}

@@ -23,6 +23,13 @@ FUNCTIONS = {
     "plantext": ("write_plan(plan)", "read_plan(catalogue, lines)"),
     "cones": ("cone(plan, line)", "delay(plan, entry, line)"),
     "folding": ("blocks(plan)",),
+    "alike": ("judge_pairs(plan, filling, other, other_filling, table, *, lines=None, other_lines=None)",
+              "classes(plan, fillings, lines=None)"),
+    "exchanges": ("exchanged(plan, exchanges)", "parts(plan, exchanges)", "least_parting(plan)", "all_exchanges(plan)"),
+    "comings": ("explained(plan, filling, row, sights)",),
+    "trials": ("tried(house, entries)",),
+    "allowed": ("states(house, part, moment=None)", "candidates(house, moment=None)", "worlds(house, moment=None)",
+                "keeps_news(house, world, number)", "conditions(house, world, day)"),
 }
 CLASSES = {
     ("kinds", "Kind"): ("__init__(self, signs, name, inputs, table, *, start=None, ways=(), price=0)", "keeps",
@@ -40,6 +47,17 @@ CLASSES = {
                         "filling_in(self, world, arrangement=None)", "broken(self, world)",
                         "swapped(self, place, arrangement=None)", "put_back(self, place, arrangement=None)",
                         "cleared(self, place, left, arrangement=None)", "with_worlds(self, left)"),
+    ("alike", "Alike"): ("__init__(self, plan, filling, other, other_filling, *, lines=None, other_lines=None)",
+                         "__bool__", "__len__", "__iter__"),
+    ("covers", "Behaviour"): ("__init__(self, plan, filling, *, lines=None)", "__contains__", "__eq__",
+                              "covers(self, other)"),
+    ("covers", "Covering"): ("__bool__",),
+    ("covers", "Parting"): ("__init__(self, first, second)", "__bool__", "__len__", "__iter__"),
+    ("floors", "Floor"): ("where(self, part)", "machine(self, name)", "__eq__"),
+    ("house", "House"): ("__init__(self, catalogue, plans=(), *, most=1)", "now", "today", "book",
+                         "enter(self, *entries)", "__getitem__", "__len__", "__iter__", "__eq__", "plan_of(self, name)",
+                         "floor(self, moment=None)", "in_force(self, moment=None)", "upto(self, moment)", "copy(self)"),
+    ("trials", "Trial"): ("__init__(self, house)", "__enter__", "__exit__"),
     ("folding", "Folded"): ("__init__(self, plan, names, kind)", "unfold(self, filling)", "fold(self, filling)"),
 }
 
@@ -66,13 +84,14 @@ class InterfaceTest(unittest.TestCase):
 
     def test_properties(self):
         for name, label, told in (("kinds", "Kind", ("keeps",)), ("plans", "Plan", ("lines", "keeping", "own")),
-                                  ("machines", "Machine", ("standing",))):
+                                  ("machines", "Machine", ("standing",)),
+                                  ("house", "House", ("now", "today", "book"))):
             box = getattr(importlib.import_module(f"tinkerhall.{name}"), label)
             for word in told:
                 self.assertIsInstance(vars(box)[word], property)
 
     def test_generators_do_nothing_ahead(self):
-        for name, word in (("showings", "comings_of"), ("folding", "blocks")):
+        for name, word in (("showings", "comings_of"), ("folding", "blocks"), ("exchanges", "all_exchanges")):
             function = getattr(importlib.import_module(f"tinkerhall.{name}"), word)
             self.assertTrue(inspect.isgeneratorfunction(function))
 

@@ -2,7 +2,8 @@
 
 from tinkerhall.checks import good_filling
 from tinkerhall.drives import Drive
-from tinkerhall.pairs import Pairs
+from tinkerhall.fields import Pairs
+from tinkerhall.hunts import least_hit, listed
 
 
 class Acting:
@@ -10,11 +11,11 @@ class Acting:
 
     def __init__(self, plan, filling):
         pairs = _beside_own(plan, good_filling(plan, filling))
-        self.table = pairs.listed()
+        self.table = listed(pairs)
         self.row = None
         self.comings = None
         if self.table is None:
-            self.row, self.comings = pairs.parting()
+            self.row, self.comings = least_hit(pairs)
         self._rows = () if self.table is None else self.table
 
     def __bool__(self):
@@ -29,7 +30,7 @@ class Acting:
 
 def acts(plan, filling):
     """Whether the exits always show what they show for the own filling."""
-    return _beside_own(plan, good_filling(plan, filling)).listed() is not None
+    return listed(_beside_own(plan, good_filling(plan, filling))) is not None
 
 
 def _beside_own(plan, filling):

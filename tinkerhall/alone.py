@@ -3,7 +3,8 @@
 from tinkerhall.acting import acts
 from tinkerhall.drives import Drive
 from tinkerhall.errors import Unlike
-from tinkerhall.pairs import Pairs
+from tinkerhall.fields import Pairs
+from tinkerhall.hunts import least_hit, listed
 from tinkerhall.plans import Plan
 
 
@@ -14,9 +15,9 @@ def alike_alone(first, second):
     if first.inputs != second.inputs:
         raise Unlike("inputs")
     pairs = Pairs(_whole_alone(first), _whole_alone(second))
-    if pairs.listed() is not None:
+    if listed(pairs) is not None:
         return None
-    row, _ = pairs.parting()
+    row, _ = least_hit(pairs)
     return row
 
 

@@ -40,6 +40,11 @@ class Drive:
             behind.append(tables[coming[number]][at])
         return tuple(shown), tuple(behind)
 
+    def seen(self, standing, inputs, coming):
+        """The signs of the watched lines in a step, and the standing behind it."""
+        shown, behind = self.moved(standing, inputs, coming)
+        return tuple([shown[spot] for spot in self._watched]), behind
+
     def outcomes(self, standing, inputs):
         """What a step can lead to: rows (coming, signs of the watched lines, standing behind).
 
@@ -49,8 +54,7 @@ class Drive:
         if told not in self._outcomes:
             first = {}
             for coming in self.comings:
-                shown, behind = self.moved(standing, inputs, coming)
-                first.setdefault((tuple([shown[spot] for spot in self._watched]), behind), coming)
+                first.setdefault(self.seen(standing, inputs, coming), coming)
             self._outcomes[told] = [(coming, watched, behind) for (watched, behind), coming in first.items()]
         return self._outcomes[told]
 

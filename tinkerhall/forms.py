@@ -16,3 +16,13 @@ def are_signs(thing, signs, many):
 
 def are_different(things):
     return all([things[at] not in things[:at] for at in range(len(things))])
+
+
+def is_count(thing):
+    """Whether a thing is an integer from 0 on."""
+    return isinstance(thing, int) and not isinstance(thing, bool) and thing >= 0
+
+
+def as_tuples(thing):
+    """A thing with tuples in the place of its lists, at any depth."""
+    return tuple([as_tuples(part) for part in thing]) if is_list(thing) else thing

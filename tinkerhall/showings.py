@@ -46,9 +46,10 @@ def shows(plan, filling, row, sights):
     lines = [line for _, line, _ in sights]
     drive = Drive(plan, filling, lines)
     standings = (drive.start,)
-    for at, inputs in enumerate(row):
+    # Behind the last sight the machine can always go on.
+    for at in range(max([step for step, _, _ in sights]) + 1):
         wanted = [(number, sight[2]) for number, sight in enumerate(sights) if sight[0] == at]
-        standings = _standings_seen(drive, standings, inputs, wanted)
+        standings = _standings_seen(drive, standings, row[at], wanted)
     return standings != ()
 
 

@@ -1,0 +1,62 @@
+"""News: entries that tell what was seen of a machine, or which parts of a lot were broken."""
+
+from tinkerhall.errors import NoNews
+from tinkerhall.forms import is_number
+from tinkerhall.showings import shows
+
+
+class Seen:
+    """What was seen of a machine."""
+
+    def __init__(self, house, moment, machine, row, sights):
+        floor = house.floor(moment)
+        _, plan, self.parts, _ = floor.machine(machine)
+        self.day = floor.day
+        self.plan = house.plan_of(plan)
+        self.kinds = tuple([floor.kinds[part] for part in self.parts])
+        self.row = row
+        self.sights = sights
+        self._answers = {}
+
+    def allows(self, world):
+        """Whether the machine can show the sights in this world."""
+        conditions = tuple([condition_on(world[part], self.day) for part in self.parts])
+        if conditions not in self._answers:
+            filling = tuple(list(zip(self.kinds, conditions)))
+            self._answers[conditions] = shows(self.plan, filling, self.row, self.sights)
+        return self._answers[conditions]
+
+
+class Told:
+    """What a bulletin tells of a lot."""
+
+    def __init__(self, house, moment, lot, low, high):
+        floor = house.floor(moment)
+        self.day = floor.day
+        self.parts = tuple([part for part, name in enumerate(floor.lots) if name == lot])
+        self.low = low
+        self.high = high
+
+    def allows(self, world):
+        """Whether so many parts of the lot are broken in this world."""
+        broken = [part for part in self.parts if condition_on(world[part], self.day) != 0]
+        return self.low <= len(broken) <= self.high
+
+
+def is_news(house, number):
+    """Whether a thing is the number of a news entry of the house."""
+    return is_number(number, 0, house.now - 1) and house[number][0] in ("seen", "told")
+
+
+def news_with(house, number):
+    """The news entry with this number, made ready to be asked for many worlds."""
+    if not is_news(house, number):
+        raise NoNews(number)
+    told = house[number][1:]
+    return Seen(house, *told) if house[number][0] == "seen" else Told(house, *told)
+
+
+def condition_on(state, day):
+    """The condition that a part in this state has on the day."""
+    way, since = state
+    return way if since <= day else 0
