@@ -5,6 +5,7 @@ from tests import naive
 from tests.raising import error_of
 from tests.samples import CATALOGUE, EMPTY, EXAMPLE, STILL, any_row, many_fillings
 from tinkerhall.comings import explained
+from tinkerhall.kinds import Kind
 from tinkerhall.plans import Plan
 
 HIGH = (("gate", 2), ("cell", 2))
@@ -27,6 +28,20 @@ class ExplainedTest(unittest.TestCase):
                                          ("j", ("join",), ("g", "r"), 1)), ("j",))
         filling = (("gate", 2), ("gate", 2), ("gate", 2), ("gate", 0), ("join", 0))
         self.assertEqual(explained(plan, filling, ((0,),), ((0, "j", 1),)), ((1, 0, 0, 0, 0),))
+
+    def test_a_coming_now_for_several_later(self):
+        # The latch stays at 1 once the gate has come; the other gate must come at each step.
+        latch = Kind(2, "latch", 1, (0, 1, 1, 1), start=0, ways=(("flees", "lost", (0, 0, 0, 0)),))
+        plan = Plan(CATALOGUE + latch, ("in",), (
+            ("a", ("gate",), ("in", "in"), 1), ("k", ("latch",), ("a",), 1), ("b", ("gate",), ("in", "in"), 1),
+            ("j", ("join",), ("k", "b"), 1)), ("j",))
+        filling = (("gate", 2), ("latch", 1), ("gate", 2), ("join", 0))
+        row = ((0,),) * 4
+        none, first = (0, 0, 0, 0), (1, 0, 0, 0)
+        self.assertEqual(explained(plan, filling, row, ((1, "j", 1), (2, "j", 1), (3, "j", 1))), (first, none, none, none))
+        for sights in (((1, "j", 1), (2, "j", 1)), ((0, "j", 1), (1, "j", 1)), ((0, "j", 1), (1, "j", 1), (2, "j", 1)),
+                       tuple((at, "j", 1) for at in range(4)), ((2, "j", 1), (3, "j", 0))):
+            self.assertEqual(explained(plan, filling, row, sights), naive.fewest_comings(plan, filling, row, sights))
 
     def test_none(self):
         self.assertIsNone(explained(EXAMPLE, HIGH, ((0,),), ((0, "c", 1),)))

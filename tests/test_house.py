@@ -164,6 +164,8 @@ class FloorTest(unittest.TestCase):
         self.assertNotEqual(one.floor(), two.floor())
         self.assertNotEqual(one.floor(), three.floor())
         self.assertFalse(floor == house)
+        for name in ("day", "kinds", "lots", "came", "shelf", "bench", "gone", "machines"):
+            self.assertNotEqual(floor.changed(**{name: "other"}), floor)
 
 
 class EntriesTest(unittest.TestCase):
@@ -203,6 +205,7 @@ class EntriesTest(unittest.TestCase):
         for parts, part in (((2, 0), 0), ((9, 1), 9), ((2, 4, 2), 2), ((2, 4, 1), 1), ((3, 3), 3), ((2, 6), 6), ((0,), 0),
                             ((3, 2, 5, 10 ** 30), 10 ** 30)):
             self.assertEqual(self.refused(("build", "n", "loop", parts)), ("NotThere", part), parts)
+        self.assertEqual(self.refused(("build", "n", "loop", (2, 3, 4, 5, 9, 8))), ("NotThere", 9))
         for parts, place in (((4, 2), "g"), ((2, 5), "c"), ((), "g"), ((5,), "c"), ((4, 2, 3), "g")):
             self.assertEqual(self.refused(("build", "n", "loop", parts)), ("Unfit", place), parts)
         self.assertEqual(self.refused(("build", "n", "loop", (2, 4, 3, 5))), ("NotThere", 3))

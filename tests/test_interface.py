@@ -30,6 +30,13 @@ FUNCTIONS = {
     "trials": ("tried(house, entries)",),
     "allowed": ("states(house, part, moment=None)", "candidates(house, moment=None)", "worlds(house, moment=None)",
                 "keeps_news(house, world, number)", "conditions(house, world, day)"),
+    "entrytext": ("write_entry(entry)", "read_entry(line)"),
+    "blame": ("fewest(house)", "least_worlds(house)", "blamed_parts(house)", "sure_parts(house)", "cleared_parts(house)",
+              "open_parts(house)", "since(house, part)", "history(house, part)"),
+    "claims": ("breaks_claim(house, world, claim)", "decide(house, claim, *, limit=None)"),
+    "grounds": ("grounds(house, claim)", "quarrels(house)"),
+    "flows": ("flow(manual)",),
+    "runs": ("follow(case, manual, signs)", "left_by(case, manual, signs)", "runs_in(case, manual, world)"),
 }
 CLASSES = {
     ("kinds", "Kind"): ("__init__(self, signs, name, inputs, table, *, start=None, ways=(), price=0)", "keeps",
@@ -58,6 +65,12 @@ CLASSES = {
                          "enter(self, *entries)", "__getitem__", "__len__", "__iter__", "__eq__", "plan_of(self, name)",
                          "floor(self, moment=None)", "in_force(self, moment=None)", "upto(self, moment)", "copy(self)"),
     ("trials", "Trial"): ("__init__(self, house)", "__enter__", "__exit__"),
+    ("lookers", "Looker"): ("__init__(self, house, claim, *, limit=None)", "__call__(self, paper)", "first_lots(self)"),
+    ("bill", "Bill"): ("__init__(self, minutes=0, price=0)", "__add__", "__sub__", "__eq__"),
+    ("manuals", "Manual"): ("__init__(self, tests, chapters)", "__getitem__", "__contains__", "__len__", "__iter__",
+                            "__eq__", "__add__", "weight", "test_row(self, name)", "statements(self)", "fits(self, plan)",
+                            "__call__(self, case, signs)"),
+    ("runs", "Run"): ("deeds", "__eq__"),
     ("folding", "Folded"): ("__init__(self, plan, names, kind)", "unfold(self, filling)", "fold(self, filling)"),
 }
 
@@ -85,13 +98,15 @@ class InterfaceTest(unittest.TestCase):
     def test_properties(self):
         for name, label, told in (("kinds", "Kind", ("keeps",)), ("plans", "Plan", ("lines", "keeping", "own")),
                                   ("machines", "Machine", ("standing",)),
-                                  ("house", "House", ("now", "today", "book"))):
+                                  ("house", "House", ("now", "today", "book")),
+                                  ("manuals", "Manual", ("weight",)), ("runs", "Run", ("deeds",))):
             box = getattr(importlib.import_module(f"tinkerhall.{name}"), label)
             for word in told:
                 self.assertIsInstance(vars(box)[word], property)
 
     def test_generators_do_nothing_ahead(self):
-        for name, word in (("showings", "comings_of"), ("folding", "blocks"), ("exchanges", "all_exchanges")):
+        for name, word in (("showings", "comings_of"), ("folding", "blocks"), ("exchanges", "all_exchanges"),
+                           ("blame", "history"), ("runs", "runs_in")):
             function = getattr(importlib.import_module(f"tinkerhall.{name}"), word)
             self.assertTrue(inspect.isgeneratorfunction(function))
 

@@ -29,7 +29,7 @@ def candidates(house, moment=None):
 
 def worlds(house, moment=None):
     """The worlds of the moment, in order."""
-    left = _all_candidates(house, moment)
+    left = all_candidates(house, moment)
     for number in house.in_force(moment):
         news = news_with(house, number)
         left = [world for world in left if news.allows(world)]
@@ -56,7 +56,7 @@ def _lots(house, moment):
     return [states(house, part, moment) for part in range(len(house.floor(moment).kinds))]
 
 
-def _all_candidates(house, moment):
+def all_candidates(house, moment=None):
     """All candidates of the moment, in order."""
     if candidates(house, moment) > MOST_CANDIDATES:
         raise TooMany("world")

@@ -1,7 +1,7 @@
 """What each entry of a book makes of the floor ahead of it, or why it is refused."""
 
 from tinkerhall.checks import good_row, good_sights
-from tinkerhall.errors import Away, Here, NoBench, NoMoment, NoNews, NotThere, TooMany, Twice, Unfit, Unknown
+from tinkerhall.errors import Away, Here, NoBench, NoNews, NotThere, TooMany, Twice, Unfit, Unknown
 from tinkerhall.news import is_news
 
 MOST_PARTS = 10
@@ -113,14 +113,14 @@ def _take(house, floor, machine):
 
 
 def _seen(house, floor, moment, machine, row, sights):
-    _judge_moment(house, moment)
     plan = house.plan_of(house.floor(moment).machine(machine)[1])
     good_sights(plan, good_row(plan, row, MOST_ROW), sights)
     return floor
 
 
 def _told(house, floor, moment, lot, low, high):
-    _judge_moment(house, moment)
+    # What was there is not asked, only whether there was such a moment.
+    house.floor(moment)
     return floor
 
 
@@ -133,11 +133,6 @@ def _marked(house, floor, number):
 DEEDS = {"come": _come, "day": _day, "build": _build, "swap": _swap, "back": _back, "move": _move, "shelve": _shelve,
          "scrap": _scrap, "give": _give, "take": _take, "seen": _seen, "told": _told, "strike": _marked,
          "again": _marked}
-
-
-def _judge_moment(house, moment):
-    if moment > house.now:
-        raise NoMoment(moment)
 
 
 def _judge_inside(floor, machine):

@@ -13,7 +13,8 @@ class Drive:
         self.steps = all_steps(self.signs, len(plan.entries))
         self.comings = _comings(fleeing)
         self.start = tuple([kind.start for kind in kinds if kind.keeps])
-        wires = _wires(plan, kinds, filling)
+        wires = [(*wire, (kind.tables(pair[1])[0], kind.tables(pair[1])[-1]))
+                 for wire, kind, pair in zip(wires_of(plan), kinds, filling)]
         self._loose = [wires[at] for at in plan.order]
         self._kept = [wires[at] for at, kind in enumerate(kinds) if kind.keeps]
         self._kept_spots = [wire[1] for wire in self._kept]
@@ -93,11 +94,7 @@ def _comings(fleeing):
     return comings
 
 
-def _wires(plan, kinds, filling):
-    """For each place its number, its line, the lines of its sources, and its tables, gone and come."""
-    wires = []
-    for number, place in enumerate(plan.places):
-        tables = kinds[number].tables(filling[number][1])
-        sources = [plan.lines.index(source) for source in place[2]]
-        wires.append((number, len(plan.entries) + number, sources, (tables[0], tables[-1])))
-    return wires
+def wires_of(plan):
+    """For each place its number, its line, and the lines of its sources, as numbers."""
+    return [(number, len(plan.entries) + number, [plan.lines.index(source) for source in place[2]])
+            for number, place in enumerate(plan.places)]

@@ -18,7 +18,7 @@ FORMS = {
     "scrap": ("number",),
     "give": ("name",),
     "take": ("name",),
-    "seen": ("number", "name", "list", "list"),
+    "seen": ("number", "name", "row", "sights"),
     "told": ("number", "name", "bound", "bound"),
     "strike": ("number",),
     "again": ("number",),
@@ -44,4 +44,5 @@ def _has_form(thing, form):
         return is_number(thing, 0, MOST_TOLD)
     if form == "parts":
         return is_list(thing) and len(thing) <= MOST_BUILT and all([is_count(part) for part in thing])
+    # Whether they are a row and sights hangs on the plan of the machine.
     return is_list(thing)

@@ -25,4 +25,22 @@ def is_count(thing):
 
 def as_tuples(thing):
     """A thing with tuples in the place of its lists, at any depth."""
-    return tuple([as_tuples(part) for part in thing]) if is_list(thing) else thing
+    if not is_list(thing):
+        return thing
+    # For each depth what is done so far; bodies of manuals can be too deep for calls in calls.
+    done = {}
+    done[0] = []
+    done[1] = []
+    sources = [thing]
+    while sources:
+        depth = len(sources)
+        at = len(done[depth])
+        if at == len(sources[-1]):
+            done[depth - 1].append(tuple(done[depth]))
+            sources.pop()
+        elif is_list(sources[-1][at]):
+            sources.append(sources[-1][at])
+            done[depth + 1] = []
+        else:
+            done[depth].append(sources[-1][at])
+    return done[0][0]

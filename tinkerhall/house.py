@@ -83,7 +83,7 @@ class House:
                 force[number] = True
             elif entry[0] in ("strike", "again"):
                 force[entry[1]] = entry[0] == "again"
-        return tuple([number for number in sorted(list(force)) if force[number]])
+        return tuple([number for number in force if force[number]])
 
     def upto(self, moment):
         """A house with just the entries ahead of the moment."""

@@ -3,6 +3,7 @@
 from tinkerhall.errors import NoNews
 from tinkerhall.forms import is_number
 from tinkerhall.showings import shows
+from tinkerhall.walks import Walk
 
 
 class Seen:
@@ -17,6 +18,7 @@ class Seen:
         self.row = row
         self.sights = sights
         self._answers = {}
+        self._bars = {}
 
     def allows(self, world):
         """Whether the machine can show the sights in this world."""
@@ -25,6 +27,23 @@ class Seen:
             filling = tuple(list(zip(self.kinds, conditions)))
             self._answers[conditions] = shows(self.plan, filling, self.row, self.sights)
         return self._answers[conditions]
+
+
+    def barred(self, lots):
+        """Whether the machine cannot show the sights, whatever states of these lots its parts have at each step."""
+        some = tuple([tuple(sorted({condition_on(state, self.day) for state in lots[part]})) for part in self.parts])
+        if some not in self._bars:
+            self._bars[some] = self._walked(some) == []
+        return self._bars[some]
+
+    def _walked(self, some):
+        """The standings that are left behind the row where each place has any of some conditions."""
+        walk = Walk(self.plan, self.kinds, some)
+        standings = [walk.start]
+        for at, inputs in enumerate(self.row):
+            wanted = [(self.plan.lines.index(line), sign) for step, line, sign in self.sights if step == at]
+            standings = walk.behind(standings, inputs, wanted)
+        return standings
 
 
 class Told:
@@ -41,6 +60,13 @@ class Told:
         """Whether so many parts of the lot are broken in this world."""
         broken = [part for part in self.parts if condition_on(world[part], self.day) != 0]
         return self.low <= len(broken) <= self.high
+
+    def barred(self, lots):
+        """Whether too many parts are surely broken, or too few can be."""
+        broken = [[condition_on(state, self.day) != 0 for state in lots[part]] for part in self.parts]
+        surely = [told for told in broken if all(told)]
+        perhaps = [told for told in broken if any(told)]
+        return len(surely) > self.high or len(perhaps) < self.low
 
 
 def is_news(house, number):

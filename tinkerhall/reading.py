@@ -4,6 +4,7 @@ from tinkerhall.errors import BadLine
 from tinkerhall.signs import is_name
 
 MOST_DIGITS = 27
+MOST_ENTRIES = 2
 
 
 class Lines:
@@ -59,6 +60,13 @@ class Words:
         word = self.coming()
         good = word is not None and 1 <= len(word) <= MOST_DIGITS and all([digit in "012" for digit in word])
         return tuple([int(digit) for digit in self._taken(good)])
+
+    def take_step(self):
+        """The signs of a step, which has one or two, or none, written as `-`."""
+        word = self.coming()
+        good = word is not None and 1 <= len(word) <= MOST_ENTRIES and all([digit in "012" for digit in word])
+        digits = self._taken(good or word == "-")
+        return tuple([int(digit) for digit in digits if digit != "-"])
 
     def finish(self):
         """Bars a word too much."""
