@@ -5,6 +5,7 @@ from tests.houses import (built_house, condition, many_houses, plain_candidates,
 from tests.raising import error_of
 from tests.samples import CATALOGUE, EXAMPLE, GATE
 from tinkerhall.allowed import candidates, conditions, keeps_news, states, worlds
+from tinkerhall.alone import alike_alone
 from tinkerhall.house import House
 from tinkerhall.kinds import Catalogue, Kind
 from tinkerhall.machines import run
@@ -180,12 +181,12 @@ class WorldsTest(unittest.TestCase):
         self.assertGreater(tried, 30)
 
     def test_kinds_that_are_alike_alone(self):
-        # One is the gate; the other one has the same table in another form: it keeps nothing that counts.
-        keeps = Kind(2, "gate", 2, (0, 0, 0, 1) , ways=GATE.ways, price=9)
+        # They differ in their prices, and in the names of their ways.
+        gate = Kind(2, "gate", 2, GATE.table, ways=GATE.ways, price=9)
         cell = CATALOGUE["cell"]
         cellar = Kind(2, "cell", 1, cell.table, start=0, ways=[(word, "other" + name[0], table)
                                                                for word, name, table in cell.ways])
-        other = Catalogue(2, (cellar, keeps, CATALOGUE["join"], CATALOGUE["cold"]))
+        other = Catalogue(2, (cellar, gate, CATALOGUE["join"], CATALOGUE["cold"]))
         plan = Plan(other, EXAMPLE.entries, EXAMPLE.places, EXAMPLE.exits)
         told = [("come", "gate", "one"), ("come", "cell", "two"), ("build", "m", "loop", (0, 1)), ("day",),
                 ("seen", 4, "m", ((1,), (0,)), ((1, "c", 1),)), ("told", 3, "two", 0, 0)]
@@ -195,6 +196,33 @@ class WorldsTest(unittest.TestCase):
         second.enter(*told)
         self.assertEqual(worlds(first), worlds(second))
         self.assertLess(len(worlds(first)), candidates(first))
+
+    def test_kinds_that_differ_where_no_row_leads(self):
+        # No table ever keeps a 2, so what the tables tell for a kept 2 is not seen.
+        left = []
+        for unseen in ((0, 0, 0), (2, 1, 2)):
+            told = {"whole": (0, 1, 1, 1, 0, 0), "stuck": (0, 0, 0, 1, 1, 1), "lost": (1, 0, 0, 0, 0, 0)}
+            tables = {name: (*table, *unseen) for name, table in told.items()}
+            kind = Kind(3, "turn", 1, tables["whole"], start=0, ways=(("stands", "stuck", tables["stuck"]),
+                                                                       ("flees", "lost", tables["lost"])))
+            plan = Plan(Catalogue(3, (kind,)), ("a",), (("p", ("turn",), ("a",), 1), ("q", ("turn",), ("p",), 1)), ("q",))
+            house = House(plan.catalogue, (("two", plan),), most=2)
+            house.enter(("come", "turn", "one"), ("come", "turn", "one"), ("build", "m", "two", (0, 1)), ("day",),
+                        ("seen", 3, "m", ((1,), (2,), (0,)), ((2, "q", 1),)), ("seen", 4, "m", ((2,), (2,)), ((1, "p", 0),)))
+            left.append((kind, worlds(house), [len(worlds(house, moment)) for moment in range(house.now)]))
+        self.assertIsNone(alike_alone(left[0][0], left[1][0]))
+        self.assertEqual(left[0][1:], left[1][1:])
+        self.assertLess(1, len(left[0][1]))
+        self.assertLess(len(left[0][1]), left[0][2][4])
+
+    def test_a_house_cut_and_entered_on_again(self):
+        for house in many_houses(87, 60, most=(1, 2)):
+            if candidates(house) < 300:
+                cut = house.upto(house.now // 3)
+                cut.enter(*house.book[cut.now:])
+                for moment in (house.now // 2, house.now):
+                    self.assertEqual(worlds(cut, moment), worlds(house, moment))
+                    self.assertEqual(worlds(house.upto(moment)), worlds(house, moment))
 
     def test_kinds_that_keep_and_do_not_and_are_alike_alone(self):
         # Both give 1 at once and for ever; broken they give 0, at times or for ever.
