@@ -4,7 +4,7 @@ import unittest
 
 from tests.raising import error_of
 from tests.repairs import BOOK, KINDS, Reader, manual_of, many_works, plain_readable, plain_runs, the_case
-from tests.samples import EXAMPLE, STILL
+from tests.samples import EMPTY, EXAMPLE, STILL
 from tinkerhall.bill import Bill
 from tinkerhall.cases import Case
 from tinkerhall.manuals import Manual
@@ -58,6 +58,19 @@ class FollowTest(unittest.TestCase):
     def test_if_without_a_sign(self):
         run = follow(the_case(), manual_of(("if", (0, 1, 2), (("done",),), (("say", "g"),))), ())
         self.assertEqual(run.events, (("say", "g", 0), ("quit",)))
+
+    def test_what_has_no_step_of_its_own(self):
+        body = (("repeat", 3, ()), ("call", "sub"), ("if", (0,), (), ()),
+                ("repeat", 2, (("repeat", 2, (("say", "g"), ("leave",), ("done",))), ("say", "c"))))
+        run = follow(the_case(), manual_of(*body, sub=()), ())
+        self.assertEqual(run.deeds, (("say", "g", 0), ("say", "c", 1)) * 2 + (("quit",),))
+
+    def test_no_place(self):
+        case = Case(EMPTY, (), (), (), ((),))
+        manual = Manual((("one", ((0,), (1,))),), (("main", (("look", "one", "in"), ("if", (1,), (("done",),), ()))),))
+        self.assertEqual([told_of(run) for run in runs_in(case, manual, 0)],
+                         [((1,), (("look", "one", "in", 1), ("done",)), ((), (), ()), 1, 3, 0, "done")])
+        self.assertEqual((left_by(case, manual, (0,)), left_by(case, manual, (1,))), ((), (0,)))
 
     def test_signs_that_no_world_can_show(self):
         run = follow(the_case(worlds=((0,) * 5,)), BOOK, (0, 1))
