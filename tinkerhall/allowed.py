@@ -64,4 +64,5 @@ def all_candidates(house, moment=None):
     for lot in _lots(house, moment):
         found = [(*begun, state) for begun in found
                  for state in (lot if many_breaks(begun) < house.most else lot[:1])]
-    return [world for _, world in sorted([(many_breaks(world), world) for world in found])]
+    ordered = sorted([(many_breaks(world), world) for world in found])
+    return [world for _, world in ordered]

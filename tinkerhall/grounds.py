@@ -43,4 +43,5 @@ def _sets(numbers):
     lots = [()]
     for number in numbers:
         lots = [*lots, *[(*lot, number) for lot in lots]]
-    return [lot for _, lot in sorted([(len(lot), lot) for lot in lots])]
+    ordered = sorted([(len(lot), lot) for lot in lots])
+    return [lot for _, lot in ordered]

@@ -28,8 +28,8 @@ class Walk:
     def _shown(self, standing, inputs, wanted):
         """All rows of signs that the lines can show in a step, if they show what is wanted."""
         begun = [*inputs, *self._blank]
-        for (spot, _, _), sign in zip(self._kept, standing):
-            begun[spot] = sign
+        for (spot, _, _), kept in zip(self._kept, standing):
+            begun[spot] = kept
         rows = [tuple(begun)]
         for spot, sources, signs in self._loose:
             rows = [(*row[:spot], sign, *row[spot + 1:]) for row in rows for sign in signs[self._at(row, sources, 0)]]
