@@ -226,6 +226,15 @@ class FormTest(unittest.TestCase):
                     inside = isinstance(taker, ast.Compare) and plain and node.func.id == "range"
                     self.assertTrue(taken or inside, f"{name}:{node.lineno}")
 
+    def test_what_is_reversed(self):
+        # Where a class has items, reversed goes over what is surely no object of it.
+        for at, node in self.each(ast.Call):
+            if ast.unparse(node.func) == "reversed":
+                over = node.args[0]
+                called = ast.unparse(over.func) if isinstance(over, ast.Call) else ""
+                self.assertTrue(called in ("list", "tuple", "sorted", "range")
+                                or isinstance(over, (ast.List, ast.Tuple, ast.Constant)), at)
+
     def test_values(self):
         for name, tree in self.trees.items():
             above, documents = parents_of(tree), docstrings_of(tree)

@@ -50,7 +50,7 @@ def _costs(passing):
     """Ahead of each step, and behind the last one: the fewest comings from each standing that can go on."""
     ends = {behind: 0 for moves in passing[-1:] for standing in moves for _, behind in moves[standing]}
     costs = [ends]
-    for moves in reversed(passing):
+    for moves in reversed(list(passing)):
         ahead = {}
         for standing in moves:
             sums = [sum(coming) + costs[0][behind] for coming, behind in moves[standing] if behind in costs[0]]

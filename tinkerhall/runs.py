@@ -59,7 +59,7 @@ class Work:
             self._read[told] = readable(self.case.plan, filling, self._rows[test], line)
         return self._read[told]
 
-    def moved(self, step, arrangement, sign):
+    def done_at(self, step, arrangement, sign):
         """What a step that is no look does: a row (next step, arrangement behind, event, bill).
 
         The next step is None if the run ends, the event None if there is none.
@@ -94,7 +94,7 @@ class Work:
         """The run from its step on to its next look, or its end."""
         step, arrangement, events, bill = run.step, run.arrangement, run.events, run.bill
         while self.steps[step][0] != "look":
-            behind, arrangement, event, taken = self.moved(step, arrangement, run.sign)
+            behind, arrangement, event, taken = self.done_at(step, arrangement, run.sign)
             bill = bill + taken
             if event is not None:
                 events = (*events, event)
