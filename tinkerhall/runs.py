@@ -4,7 +4,7 @@ from tinkerhall.bill import Bill
 from tinkerhall.errors import BadSign
 from tinkerhall.flows import flow
 from tinkerhall.forms import is_list, is_number
-from tinkerhall.showings import readable
+from tinkerhall.readings import Readings
 
 
 class Run:
@@ -37,7 +37,7 @@ class Work:
         self.case = case
         self.steps = flow(manual)
         self._rows = {name: row for name, row in manual.tests}
-        self._read = {}
+        self._readings = Readings(case)
 
     def begun(self):
         """The run up to its first look, or its end."""
@@ -46,18 +46,28 @@ class Work:
     def read(self, run, sign):
         """A run that asks, gone on with this sign to its next look, or its end."""
         _, test, line, behind = self.steps[run.step]
-        bill = run.bill + Bill(len(self._rows[test]) + 1)
+        bill = run.bill + self._bill_of_look(test)
         return self._gone_on(Run((*run.signs, sign), (*run.events, ("look", test, line, sign)), run.arrangement, sign,
                                  bill, behind, "asks"))
 
     def readable_in(self, step, arrangement, world):
         """The signs that can be read at a look, ascending."""
         _, test, line, _ = self.steps[step]
-        filling = self.case.filling_in(world, arrangement)
-        told = (test, line, filling)
-        if told not in self._read:
-            self._read[told] = readable(self.case.plan, filling, self._rows[test], line)
-        return self._read[told]
+        return self._readings.signs_in(self._rows[test], line, arrangement, world)
+
+    def first_standing(self):
+        """The standing with which the manual begins."""
+        return 0, self.case.arrangement, -1, tuple(range(len(self.case)))
+
+    def expanded(self, standing):
+        """What is due in a standing: its followers, the event of the step but of a look, or None, and its bill."""
+        step, arrangement, sign, left = standing
+        due = self.steps[step]
+        if due[0] == "look":
+            parted = self._readings.parted(self._rows[due[1]], due[2], arrangement, left)
+            return [(due[3], arrangement, told, worlds) for told, worlds in parted], None, self._bill_of_look(due[1])
+        then, behind, event, bill = self.done_at(step, arrangement, sign)
+        return [] if then is None else [(then, behind, sign, left)], event, bill
 
     def done_at(self, step, arrangement, sign):
         """What a step that is no look does: a row (next step, arrangement behind, event, bill).
@@ -102,6 +112,9 @@ class Work:
                 return Run(run.signs, events, arrangement, run.sign, bill, step, event[0])
             step = behind
         return Run(run.signs, events, arrangement, run.sign, bill, step, "asks")
+
+    def _bill_of_look(self, test):
+        return Bill(len(self._rows[test]) + 1)
 
     def _part_in(self, place, arrangement):
         names = [told[0] for told in self.case.plan.places]
