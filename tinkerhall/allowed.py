@@ -1,6 +1,6 @@
 """The worlds that the news of a house leaves."""
 
-from tinkerhall.errors import NoPart, TooMany
+from tinkerhall.errors import NoPart, NoWorld, TooMany
 from tinkerhall.forms import is_number
 from tinkerhall.news import condition_on, news_with
 
@@ -34,6 +34,14 @@ def worlds(house, moment=None):
         news = news_with(house, number)
         left = [world for world in left if news.allows(world)]
     return tuple(left)
+
+
+def some_worlds(house):
+    """The worlds of the present moment, if any is left."""
+    left = worlds(house)
+    if not left:
+        raise NoWorld(house.now)
+    return left
 
 
 def keeps_news(house, world, number):

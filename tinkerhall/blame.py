@@ -1,18 +1,18 @@
 """What holds in all worlds that are left, or in the least ones."""
 
-from tinkerhall.allowed import many_breaks, worlds
-from tinkerhall.errors import NoPart, NoWorld
+from tinkerhall.allowed import many_breaks, some_worlds, worlds
+from tinkerhall.errors import NoPart
 from tinkerhall.forms import is_number
 
 
 def fewest(house):
     """The fewest breaks of a world."""
-    return many_breaks(_left(house)[0])
+    return many_breaks(some_worlds(house)[0])
 
 
 def least_worlds(house):
     """The worlds with the fewest breaks."""
-    left = _left(house)
+    left = some_worlds(house)
     return tuple([world for world in left if many_breaks(world) == many_breaks(left[0])])
 
 
@@ -23,23 +23,23 @@ def blamed_parts(house):
 
 def sure_parts(house):
     """The parts that are broken in every world."""
-    return _with_word(_left(house), "sure")
+    return _with_word(some_worlds(house), "sure")
 
 
 def cleared_parts(house):
     """The parts that are whole in every world."""
-    return _with_word(_left(house), "cleared")
+    return _with_word(some_worlds(house), "cleared")
 
 
 def open_parts(house):
     """The parts that are broken in some worlds and whole in others."""
-    return _with_word(_left(house), "open")
+    return _with_word(some_worlds(house), "open")
 
 
 def since(house, part):
     """The earliest and the latest day since which the part is broken, each with the first such world."""
     _judge_part(house, part)
-    broken = [world for world in _left(house) if world[part][0] != 0]
+    broken = [world for world in some_worlds(house) if world[part][0] != 0]
     if not broken:
         return None
     days = [world[part][1] for world in broken]
@@ -58,13 +58,6 @@ def history(house, part):
             if told not in words:
                 words[told] = _word(worlds(house, moment), part)
             yield words[told]
-
-
-def _left(house):
-    left = worlds(house)
-    if not left:
-        raise NoWorld(house.now)
-    return left
 
 
 def _word(left, part):

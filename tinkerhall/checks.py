@@ -1,7 +1,8 @@
 """What is passed beside a plan, judged: fillings, rows, sights and lines."""
 
-from tinkerhall.errors import BadFilling, BadRow, BadSights, Flees, Unknown
+from tinkerhall.errors import BadFilling, BadRow, BadSights, BadTest, Flees, Unknown
 from tinkerhall.forms import are_signs, is_list, is_number
+from tinkerhall.signs import is_row
 
 MOST_STEPS = 60
 MOST_SIGHTS = 6
@@ -25,6 +26,13 @@ def good_row(plan, row, most=MOST_STEPS):
         if not are_signs(inputs, plan.catalogue.signs, len(plan.entries)):
             raise BadRow(at)
     return tuple([tuple(inputs) for inputs in row])
+
+
+def judge_tests(plan, tests):
+    """Bars a test whose row is no row for the plan."""
+    for name, row in tests:
+        if not is_row(row, plan.catalogue.signs, len(plan.entries)):
+            raise BadTest(name)
 
 
 def good_sights(plan, row, sights):

@@ -3,7 +3,7 @@
 from tinkerhall.allowed import conditions, many_breaks, worlds
 from tinkerhall.errors import BadClaim, BadLimit
 from tinkerhall.forms import are_different, as_tuples, is_list, is_number
-from tinkerhall.news import news_with
+from tinkerhall.news import news_in_force
 from tinkerhall.papers import WHOLE, limit_of, lots_of, too_many, with_state
 
 MOST_CLAIMED = 4
@@ -22,8 +22,12 @@ def decide(house, claim, *, limit=None):
     for world in worlds(house):
         if many_breaks(world) <= limit and is_broken_by(house, world, claim):
             return "world", world
-    news = {number: news_with(house, number) for number in house.in_force()}
-    return "paper", _paper(news, lots_of(house, claim), limit_of(claim, limit))
+    return "paper", right_paper(house, news_in_force(house), claim, limit)
+
+
+def right_paper(house, news, claim, limit):
+    """A right paper for a claim that holds; `news` is all that is in force."""
+    return _paper(news, lots_of(house, claim), limit_of(claim, limit))
 
 
 def good_claim(house, claim):

@@ -1,16 +1,15 @@
 """What breaks a manual, whatever the minutes."""
 
-from tinkerhall.acting import acts
+from tinkerhall.wholes import Wholes
 
 
 class Faults:
-    """Tells the words that are due in standings, and keeps which fillings act as whole."""
+    """Tells the words that are due in standings."""
 
     def __init__(self, work, strict):
         self._work = work
         self._strict = strict
-        self._acting = {}
-        self._whole = {}
+        self._wholes = Wholes(work.case)
 
     def worlds_broken(self, standing):
         """The worlds left in which a word is due."""
@@ -29,7 +28,7 @@ class Faults:
         if due[0] == "say":
             return "untrue" if self._is_whole(due[1], arrangement, world) else None
         if due[0] == "done":
-            return None if self._acts(arrangement, world) else "bad"
+            return None if self._wholes.acts_in(arrangement, world) else "bad"
         return "quit" if due[0] == "quit" and self._strict else None
 
     def _word_of_swap(self, place, arrangement, left):
@@ -41,12 +40,3 @@ class Faults:
     def _is_whole(self, place, arrangement, world):
         names = [told[0] for told in self._work.case.plan.places]
         return self._work.case[world][arrangement[0][names.index(place)]] == 0
-
-    def _acts(self, arrangement, world):
-        told = (arrangement[0], world)
-        if told not in self._acting:
-            filling = self._work.case.filling_in(world, arrangement)
-            if filling not in self._whole:
-                self._whole[filling] = acts(self._work.case.plan, filling)
-            self._acting[told] = self._whole[filling]
-        return self._acting[told]

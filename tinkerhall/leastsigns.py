@@ -6,7 +6,7 @@ None, and what that look can lead to, as pairs (sign, state behind), ascending.
 
 
 def least_signs(field):
-    """The fewest signs, and of such rows the least one, that lead to something; and what is found. None if nothing is."""
+    """The least row of the fewest signs that lead to something, and what is found; None if nothing is."""
     met = {field.start: True}
     level = [((), field.start)]
     # Level by level, each in the order of its rows, so that the first row that comes to a state is the least one.

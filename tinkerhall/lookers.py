@@ -2,7 +2,7 @@
 
 from tinkerhall.claims import good_claim, good_limit
 from tinkerhall.forms import is_count, is_list, is_number
-from tinkerhall.news import news_with
+from tinkerhall.news import news_in_force
 from tinkerhall.papers import limit_of, lots_of, too_many, with_state
 
 
@@ -16,8 +16,7 @@ class Looker:
 
     def __call__(self, paper):
         """None if the paper is right, otherwise the way to the first paper in it that is wrong itself."""
-        news = {number: news_with(self.house, number) for number in self.house.in_force()}
-        return _wrong_way(news, paper, self.first_lots(), limit_of(self.claim, self.limit))
+        return _wrong_way(news_in_force(self.house), paper, self.first_lots(), limit_of(self.claim, self.limit))
 
     def first_lots(self):
         """The lots at the beginning."""

@@ -1,9 +1,10 @@
 """Manuals of repair."""
 
-from tinkerhall.errors import BadManual, BadStatement, BadTest, Ring, Stray, TooHeavy, TooLong, Twice, Unknown
+from tinkerhall.checks import judge_tests
+from tinkerhall.errors import BadManual, BadStatement, Ring, Stray, TooHeavy, TooLong, Twice, Unknown
 from tinkerhall.forms import as_tuples, is_list
 from tinkerhall.runs import follow
-from tinkerhall.signs import is_name, is_row
+from tinkerhall.signs import is_name
 from tinkerhall.statements import all_statements, are_tests, bodies_in, is_body
 
 MOST_CHAPTERS = 6
@@ -74,9 +75,7 @@ class Manual:
 
     def fits(self, plan):
         """Bars tests, lines and places that the plan does not have."""
-        for name, row in self.tests:
-            if not is_row(row, plan.catalogue.signs, len(plan.entries)):
-                raise BadTest(name)
+        judge_tests(plan, self.tests)
         places = [place[0] for place in plan.places]
         for written in self._written:
             for statement in written:

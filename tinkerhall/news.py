@@ -28,7 +28,6 @@ class Seen:
             self._answers[conditions] = shows(self.plan, filling, self.row, self.sights)
         return self._answers[conditions]
 
-
     def barred(self, lots):
         """Whether the machine cannot show the sights, whatever states of these lots its parts have at each step."""
         some = tuple([tuple(sorted({condition_on(state, self.day) for state in lots[part]})) for part in self.parts])
@@ -80,6 +79,11 @@ def news_with(house, number):
         raise NoNews(number)
     told = house[number][1:]
     return Seen(house, *told) if house[number][0] == "seen" else Told(house, *told)
+
+
+def news_in_force(house):
+    """All news in force at the present moment, by their numbers."""
+    return {number: news_with(house, number) for number in house.in_force()}
 
 
 def condition_on(state, day):

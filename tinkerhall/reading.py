@@ -28,6 +28,14 @@ class Lines:
         self._at += 1
         return words
 
+    def has_more(self):
+        """Whether a line is left."""
+        return self._at < len(self._texts)
+
+    def many_taken(self):
+        """How many lines were taken so far."""
+        return self._at
+
     def finish(self):
         """Bars a line that is left."""
         if self._at < len(self._texts):

@@ -102,8 +102,9 @@ def _is_row(work, thing):
     if not is_list(thing) or len(thing) != 5:
         return False
     step, arrangement, sign, left, more = thing
+    signs = work.case.plan.catalogue.signs
     return (is_number(step, 0, len(work.steps) - 1) and is_arrangement(work.case, arrangement)
-            and is_number(sign, -1, work.case.plan.catalogue.signs - 1) and are_worlds(work.case, left) and is_count(more))
+            and is_number(sign, -1, signs - 1) and are_worlds(work.case, left) and is_count(more))
 
 
 def _is_right(work, faults, first, row):
