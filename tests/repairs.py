@@ -1,11 +1,14 @@
 """Manuals and cases that the tests share, and what the document says of them, done plainly and slowly."""
 
+import functools
 import random
 
 from tests import naive
-from tests.samples import EXAMPLE, any_catalogue, any_plan, any_row
+from tests.samples import CELL, EXAMPLE, any_catalogue, any_plan, any_row
 from tinkerhall.cases import Case
+from tinkerhall.kinds import Catalogue, Kind
 from tinkerhall.manuals import Manual
+from tinkerhall.plans import Plan
 
 # The example of the document, a little longer: two tests, and every word.
 TESTS = (("one", ((1,), (1,))), ("two", ((0,), (0,))))
@@ -274,3 +277,81 @@ def many_works(seed, many, depth=2):
         if len([statement for statement in manual.statements() if statement[0] == "look"]) * manual.weight < 150:
             found.append((case, manual))
     return found
+
+
+def is_rich(manual):
+    """Whether a manual has some looks, and not too many runs."""
+    words = [step[0] for step in plain_flow(manual)]
+    return 8 <= len(words) <= 60 and 2 <= words.count("look") <= 7 and words[0] not in ("done", "quit")
+
+
+@functools.cache
+def many_rich_works(seed, many):
+    """Pairs of a case and a rich manual that fits it."""
+    chance = random.Random(seed)
+    found = []
+    while len(found) < many:
+        case = any_case(chance, 3, 5)
+        manual = any_manual(chance, case.plan, 3)
+        if is_rich(manual):
+            found.append((case, manual))
+    return found
+
+
+# A part that blinks gives 0, or 1 now and then; a calm one gives 0, and 1 when it is broken.
+BLINK = Kind(2, "blink", 0, (0,), ways=(("flees", "on", (1,)),), price=5)
+CALM = Kind(2, "calm", 0, (0,), ways=(("stands", "on", (1,)),), price=7)
+LAMPS = Plan(Catalogue(2, (BLINK, CALM)), (), (("b", ("blink",), (), 4), ("s", ("calm",), (), 9)), ("s",))
+FLASH = (("now", ((),)),)
+BLINKED = ("look", "now", "b")
+
+
+def lamp_case(spares=8):
+    """The part 0 blinks; the calm ones, the part 1 and those on the shelf, are whole."""
+    return Case(LAMPS, ("blink", "calm", *["calm"] * spares), (0, 1), tuple(range(2, 2 + spares)), ((1,) + (0,) * (1 + spares),))
+
+
+def wide_manual(says):
+    """A manual with 3,989 standings on the lamps, and one more for each of so many statements at its beginning."""
+    rounds = ("repeat", 4, (BLINKED, ("if", (1,), (("swap", "s"),), ())))
+    own = ("say", "b")
+    return Manual(FLASH, (("main", (*[own] * says, rounds, rounds, ("repeat", 4, (own,) * 59), own, own)),))
+
+
+# A wire passes what comes in on to a cell; a turner can stand in for it, and turns it.
+PASS = Kind(2, "pass", 1, (0, 1), ways=(("stands", "zero", (0, 0)), ("stands", "one", (1, 1)), ("flees", "turn", (1, 0))), price=3)
+TURNER = Kind(2, "turner", 1, (1, 0), price=1)
+WIRE = Plan(Catalogue(2, (PASS, TURNER, CELL)), ("in",), (("g", ("pass", "turner"), ("in",), 3), ("c", ("cell",), ("g",), 5)), ("c",))
+WIRED = ("pass", "cell", "pass", "cell", "turner")
+
+
+def wire_case(*worlds, **told):
+    """The parts 0 and 1 are in the machine, a pass, a cell and a turner on the shelf; a world is told by its broken parts."""
+    rows = [tuple(dict(broken).get(part, 0) for part in range(5)) for broken in worlds or ((),)]
+    told = {"placed": (0, 1), "shelf": (2, 3, 4), **told}
+    return Case(WIRE, WIRED, told["placed"], told["shelf"], rows, bench=told.get("bench", ()))
+
+
+# With the tests of BOOK: the look tells whether the wire gives 0 when 1 comes in; then it is replaced.
+MEND = (("look", "one", "g"), ("if", (0,), (("swap", "g"),), ()), ("done",))
+ZERO, ONE, TURN, STUCK, DROP = ((0, 1),), ((0, 2),), ((0, 3),), ((1, 1),), ((1, 2),)
+
+
+@functools.cache
+def many_wire_works(seed, many):
+    """Pairs of a case with the wire, of which parts often come and go, and a rich manual."""
+    chance = random.Random(seed)
+    found = []
+    while len(found) < many:
+        worlds = {chance.choice(((), ZERO, ONE, TURN, TURN, STUCK, DROP, DROP, (*TURN, *DROP), ((2, 3),), (*ZERO, *DROP)))
+                  for _ in range(chance.choice((1, 2, 3, 4)))}
+        shelf = chance.choice(((), (2,), (2, 3), (2, 3, 4), (4, 3, 2), (3, 4)))
+        manual = any_manual(chance, WIRE, 3)
+        if is_rich(manual):
+            found.append((wire_case(*sorted(worlds), shelf=shelf), manual))
+    return found
+
+
+def as_lists(thing):
+    """A thing with lists in the place of its tuples, at any depth."""
+    return [as_lists(part) for part in thing] if isinstance(thing, tuple) else thing

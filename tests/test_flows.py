@@ -41,6 +41,34 @@ class FlowTest(unittest.TestCase):
         self.assertEqual(flow(manual_of(body, DONE)), (
             ("say", "g", 2), ("say", "g", 2), ("say", "c", 6), ("say", "g", 5), ("say", "g", 5), ("say", "c", 6), DONE, QUIT))
 
+    def test_leave_at_the_beginning_and_behind_what_is_empty(self):
+        self.assertEqual(flow(manual_of(("repeat", 3, (LEAVE,)), ("say", "g"))), (("say", "g", 1), QUIT))
+        self.assertEqual(flow(manual_of(("say", "c"), ("repeat", 3, (LEAVE, ("say", "g"))))), (("say", "c", 1), QUIT))
+        # Behind an empty repeat, and behind an empty chapter that is called; no run comes to the second copy.
+        for empty in (("repeat", 4, ()), ("call", "sub"), ("repeat", 2, (("call", "sub"), ("repeat", 2, ())))):
+            self.assertEqual(flow(manual_of(("repeat", 2, (("say", "g"), empty, LEAVE, DONE)), ("say", "c"), sub=())),
+                             (("say", "g", 2), ("say", "g", 2), ("say", "c", 3), QUIT))
+        # In both bodies of an if, with more behind it that only the other body comes to.
+        self.assertEqual(flow(manual_of(("repeat", 2, (("if", (0,), (LEAVE, DONE), (("say", "g"),)), ("say", "c"))), DONE)), (
+            ("if", (0,), 6, 1), ("say", "g", 2), ("say", "c", 3), ("if", (0,), 6, 4), ("say", "g", 5), ("say", "c", 6), DONE,
+            QUIT))
+        self.assertEqual(flow(manual_of(("repeat", 2, (("if", (0,), (LEAVE,), (LEAVE,)), ("say", "c"))))), (
+            ("if", (0,), 4, 4), ("say", "c", 2), ("if", (0,), 4, 4), ("say", "c", 4), QUIT))
+
+    def test_what_stands_behind_leave_done_and_quit(self):
+        body = (("say", "g"), LEAVE, ("look", "one", "g"), ("repeat", 2, (DONE,)))
+        self.assertEqual(flow(manual_of(("repeat", 2, body), ("say", "c"))),
+                         (("say", "g", 2), ("say", "g", 2), ("say", "c", 3), QUIT))
+        # Behind done and quit all is written out, though no run comes there.
+        self.assertEqual(flow(manual_of(("repeat", 2, (DONE, ("say", "g"))), QUIT, ("swap", "g"))),
+                         (DONE, ("say", "g", 2), DONE, ("say", "g", 4), QUIT, ("swap", "g", 6), QUIT))
+
+    def test_chapters_called_twice_and_one_in_another(self):
+        low = (("if", (1,), (("say", "g"),), ()),)
+        self.assertEqual(flow(manual_of(("call", "sub"), ("call", "low"), DONE, sub=(("call", "low"), ("call", "empty")), low=low,
+                                        empty=())), (
+            ("if", (1,), 1, 2), ("say", "g", 2), ("if", (1,), 3, 4), ("say", "g", 4), DONE, QUIT))
+
     def test_call(self):
         self.assertEqual(flow(manual_of(("repeat", 2, (("call", "sub"),)), sub=(("if", (1,), (QUIT,), ()), ("say", "g")))), (
             ("if", (1,), 1, 2), QUIT, ("say", "g", 3), ("if", (1,), 4, 5), QUIT, ("say", "g", 6), QUIT))

@@ -51,6 +51,61 @@ class ManualTest(unittest.TestCase):
         large = manual_of(*[DONE] * 150)
         self.assertEqual(error_of(lambda: large + Manual((), (("next", (DONE,) * 51),))), ("TooLong", 201))
 
+    def test_lists_that_are_changed_behind_it(self):
+        row, signs, inner, body = [[0], [1]], [0, 2], [["done"]], []
+        body.extend([["look", "one", "g"], ["if", signs, inner, []], ["repeat", 2, [["say", "c"]]]])
+        tests, chapters = [["one", row]], [["main", body], ["sub", []]]
+        manual = Manual(tests, chapters)
+        row.append([0])
+        row[0][0] = 1
+        signs[0] = 1
+        inner.append(["quit"])
+        body[0][1] = "odd"
+        body.pop()
+        chapters.pop()
+        tests.clear()
+        self.assertEqual(manual.tests, (("one", ((0,), (1,))),))
+        self.assertEqual(manual.chapters, (("main", (("look", "one", "g"), ("if", (0, 2), (DONE,), ()),
+                                                     ("repeat", 2, (("say", "c"),)))), ("sub", ())))
+        self.assertEqual((manual.weight, manual.test_row("one"), manual["main"]), (8, ((0,), (1,)), manual.chapters[0][1]))
+        self.assertEqual([statement[0] for statement in manual.statements()], ["look", "if", "done", "repeat", "say"])
+        self.assertEqual(Manual([], [["main", []]]), Manual((), (("main", ()),)))
+
+    def test_all_of_a_joined_manual(self):
+        more = Manual((("three", ((1,),)),), (("more", (("look", "three", "g"), ("say", "c"))), ("low", (DONE,))))
+        first, second = (BOOK.tests, BOOK.chapters), (more.tests, more.chapters)
+        both = BOOK + more
+        self.assertIsInstance(both, Manual)
+        self.assertEqual((both.tests, both.chapters), ((*BOOK.tests, *more.tests), (*BOOK.chapters, *more.chapters)))
+        self.assertEqual((len(both), list(both), both.weight), (3, ["main", "more", "low"], BOOK.weight))
+        self.assertEqual([name in both for name in ("main", "more", "low", "three")], [True, True, True, False])
+        self.assertEqual((both["more"], both["main"], both.test_row("three")), (more["more"], BOOK["main"], ((1,),)))
+        self.assertEqual(list(both.statements()), [*BOOK.statements(), *more.statements()])
+        self.assertEqual(both(the_case(), (1,)), follow(the_case(), BOOK, (1,)))
+        self.assertEqual(error_of(both.fits, TURNED), ("BadTest", "one"))
+        # The manuals that are joined stay, and the order counts.
+        self.assertEqual(((BOOK.tests, BOOK.chapters), (more.tests, more.chapters)), (first, second))
+        self.assertNotEqual(both, more + BOOK)
+        self.assertEqual((more + BOOK).weight, more.weight)
+        self.assertEqual((both + Manual((), (("endx", ()),))).chapters[3:], (("endx", ()),))
+
+    def test_errors_of_joined_manuals(self):
+        def joined(first, second):
+            return error_of(lambda: first + second)
+
+        def plain(tests, *chapters):
+            return Manual(tests, chapters)
+
+        tests = tuple(("t" + letter, ((0,),)) for letter in "abcdefgh")
+        chapters = tuple(("c" + letter, ()) for letter in "abcdef")
+        self.assertEqual(joined(plain(tests, *chapters), plain((("odd", ((0,),)),), ("more", ()))), ("BadManual", "tests"))
+        self.assertEqual(joined(plain(tests[:4], *chapters), plain(tests[:4], ("more", ()))), ("BadManual", "chapters"))
+        self.assertIsNone(joined(plain(tests[:4], *chapters[:3]), plain(tests[4:], *chapters[3:])))
+        self.assertEqual(joined(plain(tests[:2], ("main", ())), plain(tests[1:3], ("main", ()))), ("Twice", "tb"))
+        self.assertEqual(joined(plain(tests[:2], ("main", (DONE,) * 200)), plain(tests[2:], ("main", (DONE,)))), ("Twice", "main"))
+        self.assertEqual(joined(plain((), ("main", (DONE,) * 200)), plain((), ("sub", (DONE,)))), ("TooLong", 201))
+        self.assertIsNone(joined(plain((), ("main", (DONE,) * 199)), plain((), ("sub", (DONE,)))))
+
     def test_statements(self):
         self.assertTrue(inspect.isgeneratorfunction(Manual.statements))
         manual = manual_of(*MAIN, sub=(("repeat", 2, (("leave",), ("say", "g"))),))

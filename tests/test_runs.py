@@ -159,5 +159,24 @@ class RunsInTest(unittest.TestCase):
                 several += len(found) > 1
         self.assertGreater(several, 30)
 
+    def test_ended_rows_of_signs_are_those_that_leave_the_world(self):
+        chance = random.Random(116)
+        ended = 0
+        for case, manual in many_works(117, 250):
+            runs = [[run.signs for run in runs_in(case, manual, world)] for world in range(len(case))]
+            rows = sorted({signs for told in runs for signs in told})
+            rows += [(*signs[:chance.randrange(len(signs))], chance.randrange(2)) for signs in rows if signs]
+            for signs in rows:
+                run = follow(case, manual, signs)
+                left = left_by(case, manual, signs)
+                for world in range(len(case)):
+                    if run.ended != "asks":
+                        self.assertEqual(run.signs in runs[world], world in left)
+                        ended += 1
+                    # What is asked can be gone on with in just the worlds that are left.
+                    goes_on = any(told[:len(run.signs)] == run.signs for told in runs[world])
+                    self.assertEqual(goes_on, world in left)
+        self.assertGreater(ended, 500)
+
     def test_errors(self):
         self.assertEqual(error_of(lambda: list(runs_in(the_case(), manual_of(("say", "odd")), 0))), ("Unknown", "odd"))
