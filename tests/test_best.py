@@ -153,15 +153,21 @@ class BestTest(unittest.TestCase):
         self.assertEqual(best.answer((case.arrangement, (0, 1, 2)), SWAP_G), -1)
 
     def test_worst(self):
-        # A part that turns now and then: what is read first does not count in the end.
-        case = wire_case((), ZERO, STUCK)
-        menu = Menu(WIRE, TESTS, (("one", "g"), ("odd", "g")))
-        best = Best(case, menu, goal=(0, 1, 2))
-        self.assertEqual(best.value, None)
-        # As a tuple: the longer row can be the less one.
         lamp, menu, goal = lamps_play(((0, 0), (0, 1), (1, 0)))
         best = Best(lamp, menu, goal=goal)
         self.assertEqual((best.value, best.worst()), (4, (0, 0)))
+        # Both (0, 0), (0, 1) and (1,) take the value; as tuples, (0, 0) is the least one.
+        lamp = Kind(2, "lamp", 0, (0,), ways=(("stands", "on", (1,)),))
+        wire = Kind(2, "wire", 1, (0, 1), ways=(("stands", "on", (1, 1)),))
+        plan = Plan(Catalogue(2, (lamp, wire)), (), (("p", ("lamp",), (), 7), ("q", ("lamp",), (), 9), ("r", ("wire",), ("p",), 7)),
+                    ("q", "r"))
+        case = Case(plan, ("lamp", "lamp", "wire", "lamp", "wire"), (0, 1, 2), (3, 4),
+                    ((1, 0, 0, 0, 0), (0, 1, 0, 0, 0), (0, 0, 1, 0, 0)))
+        best = Best(case, Menu(plan, FLASH, (("now", "p"), ("now", "q"))))
+        self.assertEqual(best.written()["best"], (
+            ("look", "now", "q"), ("if", (0,), (
+                ("look", "now", "p"), ("if", (0,), (("swap", "r"), DONE), (("swap", "p"), DONE))), (("swap", "q"), DONE))))
+        self.assertEqual((best.value, best.worst()), (11, (0, 0)))
 
     def test_as_told_for_many(self):
         told = {}

@@ -36,6 +36,21 @@ FUNCTIONS = {
     "claims": ("breaks_claim(house, world, claim)", "decide(house, claim, *, limit=None)"),
     "grounds": ("grounds(house, claim)", "quarrels(house)"),
     "flows": ("flow(manual)",),
+    "manwrite": ("write_manual(manual)",),
+    "manread": ("read_manual(lines)",),
+    "judging": ("standings_of(case, manual)", "followers(case, manual, standing)", "takes(case, manual, standing)"),
+    "verdicts": ("judge_table(case, manual, limit, table, *, strict=True)",),
+    "totals": ("bills(case, manual)", "most_minutes(case, manual)", "needs(case, manual)"),
+    "leaning": ("leaned(case, manual)",),
+    "manalike": ("outcomes(case, manual, world)", "manuals_alike(case, first, second)"),
+    "nodes": ("is_met(case, node, goal=None)", "deeds_at(case, menu, node, goal=None)",
+              "followers_of(case, menu, node, deed)", "nodes(case, menu, goal=None)"),
+    "values": ("value_table(case, menu, goal=None)", "judge_values(case, menu, table, goal=None)"),
+    "working": ("case_of(house, machine)", "admitted(house, machine, manual, limit, *, strict=True)",
+                "do_manual(house, machine, manual, signs)"),
+    "calls": ("called_back(house)", "clearance(house, machine)"),
+    "payers": ("payer_in(house, terms, part, world)", "payer(house, terms, part)"),
+    "journal": ("write_journal(house)", "read_journal(lines)", "taken_up(lines)"),
     "runs": ("follow(case, manual, signs)", "left_by(case, manual, signs)", "runs_in(case, manual, world)"),
 }
 CLASSES = {
@@ -71,6 +86,10 @@ CLASSES = {
                             "__eq__", "__add__", "weight", "test_row(self, name)", "statements(self)", "fits(self, plan)",
                             "__call__(self, case, signs)"),
     ("runs", "Run"): ("deeds", "__eq__"),
+    ("verdicts", "Verdict"): ("__init__(self, case, manual, limit, *, strict=True)", "__bool__", "__len__", "__iter__"),
+    ("menus", "Menu"): ("__init__(self, plan, tests, looks)", "__len__", "__iter__", "__eq__", "test_row(self, name)"),
+    ("best", "Best"): ("__init__(self, case, menu, *, goal=None)", "__bool__", "__len__", "__iter__", "trap", "written(self)",
+                       "answer(self, node, deed)", "worst(self)"),
     ("folding", "Folded"): ("__init__(self, plan, names, kind)", "unfold(self, filling)", "fold(self, filling)"),
 }
 
@@ -99,7 +118,8 @@ class InterfaceTest(unittest.TestCase):
         for name, label, told in (("kinds", "Kind", ("keeps",)), ("plans", "Plan", ("lines", "keeping", "own")),
                                   ("machines", "Machine", ("standing",)),
                                   ("house", "House", ("now", "today", "book")),
-                                  ("manuals", "Manual", ("weight",)), ("runs", "Run", ("deeds",))):
+                                  ("manuals", "Manual", ("weight",)), ("runs", "Run", ("deeds",)),
+                                  ("best", "Best", ("trap",))):
             box = getattr(importlib.import_module(f"tinkerhall.{name}"), label)
             for word in told:
                 self.assertIsInstance(vars(box)[word], property)
