@@ -112,6 +112,25 @@ class BestTest(unittest.TestCase):
         self.assertEqual((best.value, best.trap), (None, tuple(row[:2] for row in best.table)))
         self.assertEqual(error_of(best.written), ("NoManual", 3))
 
+    def test_a_deed_that_can_lead_into_the_trap_is_not_chosen(self):
+        # Two turners one behind the other do no harm. In the first world q is turned, and so is the part that fits in p; in the
+        # second one p is turned. Whoever looks at p, and finds it whole, may not swap it any more.
+        first = Kind(2, "first", 1, (0, 1), ways=(("stands", "turned", (1, 0)),))
+        second = Kind(2, "second", 1, (0, 1), ways=(("stands", "turned", (1, 0)),))
+        third = Kind(2, "third", 1, (0, 1), ways=(("stands", "turned", (1, 0)),))
+        plan = Plan(Catalogue(2, (first, second, third)), ("in",),
+                    (("p", ("first",), ("in",), 5), ("q", ("second", "third"), ("p",), 3)), ("q",))
+        # The part in q is a stand-in, which is never cleared.
+        case = Case(plan, ("first", "third", "first", "second"), (0, 1), (2, 3), ((1, 0, 0, 1), (0, 1, 1, 1)))
+        look = ("look", "odd", "p")
+        best = Best(case, Menu(plan, TESTS, (("odd", "p"),)))
+        self.assertEqual(best.value, 5)
+        self.assertEqual(dict((row[:2], row[2]) for row in best.table)[case.arrangement, (0,)], 3)
+        self.assertIn((case.arrangement, (1,)), best.trap)
+        # With the look, 2 minutes and 3 more would do in the first of its worlds.
+        self.assertEqual((best.written()["best"], best.worst()), ((("swap", "p"), DONE), ()))
+        self.assertEqual(best.answer((case.arrangement, (0, 1)), look), 1)
+
     def test_three_signs(self):
         case, menu, goal = lamps_play(((0,), (1,), (2,)))
         look = ("look", "now", "pa")

@@ -128,6 +128,13 @@ class JudgeValuesTest(unittest.TestCase):
             self.assertEqual(self.judged(row, *self.table), 0, row)
             self.assertEqual(self.judged(row, *self.table[1:]), -1, row)
         self.assertEqual(self.judged(*self.table, (START, (), 0)), 5)
+        # With a goal that is met throughout, all other rows fit.
+        met = (START, (0, 1), 0)
+        self.assertIsNone(self.judged(met, (SWAPPED, (0,), 0), goal=(7, 7)))
+        for row in bad:
+            if isinstance(row, tuple) and len(row) == 3:
+                other = tuple(told if repr(told) != repr(kept) else new for told, kept, new in zip(row, (START, (0, 1), 3), met))
+                self.assertEqual(self.judged(met, other, goal=(7, 7)), 1, other)
 
     def test_where_a_node_has_several_rows_the_first_one_tells(self):
         first, low, *rest = self.table

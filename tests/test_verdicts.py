@@ -254,9 +254,34 @@ class JudgeTableTest(unittest.TestCase):
             self.assertEqual(self.judged((self.table[0], row, *self.table[1:])), 1, row)
             # It tells no standing that another row could hang on.
             self.assertEqual(self.judged((row, *self.table[1:])), -1, row)
+        # At a quit that is let in, all other rows are right by themselves.
+        end = (4, *first[1:4], 0)
+        self.assertIsNone(self.judged((*self.table, end), strict=False))
+        for row in bad:
+            if isinstance(row, tuple) and len(row) == 5:
+                other = tuple(told if repr(told) != repr(kept) else new for told, kept, new in zip(row, first, end))
+                self.assertEqual(self.judged((*self.table, other), strict=False), 4, other)
         # These have their forms, wherever the parts are.
         for told in (swapped, (placed, (4, 3, 2), ()), (placed, (), (("g", 4), ("c", 3), ("g", 2))), ((4, 3), (1, 0), (("g", 2),))):
             self.assertIsNone(self.judged((*self.table, (4, told, 1, (0,), 0)), strict=False))
+
+    def test_arrangements_with_one_bench_and_other_parts_in_the_places(self):
+        case = wire_case(ZERO, ((0, 1), (3, 1)))
+        turned = ((4, 1), (0, 2, 3), ())
+        manual = manual_of(("look", "one", "g"), DONE)
+        rows = ((0, turned, -1, (0, 1), 3), (1, turned, 0, (0, 1), 0))
+        start = ((0, case.arrangement, -1, (0, 1), 3), (1, case.arrangement, 0, (0, 1), 0))
+        # Both read 0, but done is bad.
+        self.assertEqual(judge_table(case, manual, 3, (*start, *rows)), 1)
+        exits = WIRE.changed(exits=("in",))
+        other = Case(exits, WIRED, (0, 1), (2, 3, 4), case.worlds)
+        self.assertIsNone(judge_table(other, manual, 3, (*start, *rows)))
+        passed = ((2, 1), (0, 3, 4), ())
+        self.assertEqual(judge_table(other, manual, 3, (*start, (0, passed, -1, (0, 1), 3), (1, passed, 0, (0, 1), 0))), 2)
+        self.assertIsNone(judge_table(other, manual, 3, (*start, (0, passed, -1, (0, 1), 3), (1, passed, 1, (0, 1), 0))))
+        wired = manual_of(DONE)
+        told = ((0, case.arrangement, -1, (0, 1), 0), (0, passed, -1, (0, 1), 0))
+        self.assertEqual([judge_table(case, wired, 0, rows) for rows in (told, told[::-1])], [0, 1])
 
     def test_true_and_false_in_rows(self):
         table = tuple((step, arrangement, sign, left, 0) for step, arrangement, sign, left in standings_of(self.case, manual_of()))
