@@ -145,7 +145,8 @@ def many_plays(seed, many):
     found = []
     while len(found) < many:
         if chance.random() < 0.5:
-            worlds = {chance.choice(((), ZERO, ONE, TURN, STUCK, DROP, (*ZERO, *STUCK), ((2, 1),), (*ZERO, (2, 2)), ((3, 1),)))
+            worlds = {chance.choice(((), ZERO, ONE, TURN, STUCK, DROP, (*ZERO, *STUCK), ((2, 1),), (*ZERO, (2, 2)),
+                                     ((3, 1),)))
                       for _ in range(chance.choice((1, 2, 3, 4, 5)))}
             case = wire_case(*sorted(worlds), shelf=chance.choice(((), (2,), (2, 3), (2, 3, 4), (4, 3, 2))))
         else:
@@ -157,7 +158,8 @@ def many_plays(seed, many):
 
 def any_wire_case(chance):
     some = (ZERO, ONE, STUCK, ()) if chance.random() < 0.6 else (
-        ZERO, ONE, TURN, STUCK, DROP, (*ZERO, *STUCK), (*ONE, *DROP), (*ZERO, (2, 1)), (*TURN, (3, 1)), (*STUCK, (3, 2)), ())
+        ZERO, ONE, TURN, STUCK, DROP, (*ZERO, *STUCK), (*ONE, *DROP), (*ZERO, (2, 1)), (*TURN, (3, 1)),
+        (*STUCK, (3, 2)), ())
     worlds = {chance.choice(some) for _ in range(chance.choice((1, 2, 3, 3, 4)))}
     shelf = chance.choice(((2, 3), (2, 3, 4), (4, 3, 2), (3, 2), (4, 2, 3)))
     plan = WIRE.changed(places=[(*place[:3], chance.choice((3, 9, 15, 60))) for place in WIRE.places])
@@ -208,6 +210,7 @@ def large_play(many):
     plan = Plan(Catalogue(3, kinds), ("x",), places, (places[1][0],))
     told = [place[1][0] for place in places] + spares
     shelf = tuple(range(len(places), len(told)))
-    case = Case(plan, told, tuple(range(len(places))), shelf, [(condition,) + (1,) * (len(told) - 1) for condition in range(7)])
+    case = Case(plan, told, tuple(range(len(places))), shelf,
+                [(condition,) + (1,) * (len(told) - 1) for condition in range(7)])
     tests = tuple((name, ((sign,),)) for sign, name in enumerate(("ta", "tb", "tc")))
     return case, Menu(plan, tests, tuple((name, "w") for name, _ in tests))

@@ -308,7 +308,8 @@ BLINKED = ("look", "now", "b")
 
 def lamp_case(spares=8):
     """The part 0 blinks; the calm ones, the part 1 and those on the shelf, are whole."""
-    return Case(LAMPS, ("blink", "calm", *["calm"] * spares), (0, 1), tuple(range(2, 2 + spares)), ((1,) + (0,) * (1 + spares),))
+    return Case(LAMPS, ("blink", "calm", *["calm"] * spares), (0, 1), tuple(range(2, 2 + spares)),
+                ((1,) + (0,) * (1 + spares),))
 
 
 def wide_manual(says):
@@ -319,9 +320,11 @@ def wide_manual(says):
 
 
 # A wire passes what comes in on to a cell; a turner can stand in for it, and turns it.
-PASS = Kind(2, "pass", 1, (0, 1), ways=(("stands", "zero", (0, 0)), ("stands", "one", (1, 1)), ("flees", "turn", (1, 0))), price=3)
+PASS = Kind(2, "pass", 1, (0, 1), ways=(("stands", "zero", (0, 0)), ("stands", "one", (1, 1)),
+                                        ("flees", "turn", (1, 0))), price=3)
 TURNER = Kind(2, "turner", 1, (1, 0), price=1)
-WIRE = Plan(Catalogue(2, (PASS, TURNER, CELL)), ("in",), (("g", ("pass", "turner"), ("in",), 3), ("c", ("cell",), ("g",), 5)), ("c",))
+WIRE = Plan(Catalogue(2, (PASS, TURNER, CELL)), ("in",), (("g", ("pass", "turner"), ("in",), 3),
+                                                          ("c", ("cell",), ("g",), 5)), ("c",))
 WIRED = ("pass", "cell", "pass", "cell", "turner")
 
 

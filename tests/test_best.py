@@ -60,11 +60,14 @@ class BestTest(unittest.TestCase):
         best = Best(case, menu)
         # The look that takes 2 minutes tells as much as the one that takes 3; then one swap will do.
         self.assertEqual(best.value, 2 + 9)
-        self.assertEqual(best.written(), Manual(TESTS[2:], (("best", (("look", "odd", "g"), ("if", (0,), (SWAP_G, DONE), (SWAP_C, DONE)))),)))
+        self.assertEqual(best.written(), Manual(TESTS[2:], (("best",
+                                                             (("look", "odd", "g"),
+                                                              ("if", (0,), (SWAP_G, DONE), (SWAP_C, DONE)))),)))
         self.assertEqual(Best(case, Menu(long, TESTS, (("one", "g"),))).value, 3 + 9)
 
     def test_met_at_the_beginning(self):
-        for case, menu, goal in ((wire_case(), MENU, None), (wire_case((), ((2, 1),)), MENU, None), (wire_case(ZERO, ONE), MENU, (3, 3)),
+        for case, menu, goal in ((wire_case(), MENU, None), (wire_case((), ((2, 1),)), MENU, None),
+                                 (wire_case(ZERO, ONE), MENU, (3, 3)),
                                  (Case(EMPTY, (), (), (), ((),)), Menu(EMPTY, (), ()), None)):
             best = Best(case, menu, goal=goal)
             self.assertEqual((bool(best), best.value, len(best), best.trap, best.worst()), (True, 0, 1, (), ()))
@@ -78,7 +81,10 @@ class BestTest(unittest.TestCase):
         best = Best(case, menu, goal=[0, 1, 2])
         two, odd = ("look", "two", "g"), ("look", "odd", "g")
         self.assertEqual(best.value, 5)
-        self.assertEqual(best.written(), Manual(TESTS[1:], (("best", (two, ("if", (0,), (odd, ("if", (0,), (DONE,), (DONE,))), (DONE,)))),)))
+        self.assertEqual(best.written(), Manual(TESTS[1:], (("best",
+                                                             (two,
+                                                              ("if", (0,), (odd, ("if", (0,), (DONE,), (DONE,))),
+                                                               (DONE,)))),)))
         self.assertEqual(best_body(case, menu, (5, 5, 6)), (two, ("if", (0,), (DONE,), (DONE,))))
         self.assertEqual(best_body(case, menu, (5, 6, 5)), (odd, ("if", (0,), (DONE,), (DONE,))))
 
@@ -160,7 +166,8 @@ class BestTest(unittest.TestCase):
         told = {}
         for row in best.table:
             for deed in player.deeds(row[:2]):
-                rank = [(known[follower] == -1, known[follower], -sign) for sign, follower in player.followers(row[:2], deed)]
+                rank = [(known[follower] == -1, known[follower], -sign) for sign,
+                        follower in player.followers(row[:2], deed)]
                 self.assertEqual(best.answer(row[:2], deed), -max(rank)[2])
                 self.assertEqual(best.answer(as_lists(row[:2]), list(deed)), -max(rank)[2])
                 told[-max(rank)[2]] = True
@@ -178,7 +185,8 @@ class BestTest(unittest.TestCase):
         # Both (0, 0), (0, 1) and (1,) take the value; as tuples, (0, 0) is the least one.
         lamp = Kind(2, "lamp", 0, (0,), ways=(("stands", "on", (1,)),))
         wire = Kind(2, "wire", 1, (0, 1), ways=(("stands", "on", (1, 1)),))
-        plan = Plan(Catalogue(2, (lamp, wire)), (), (("p", ("lamp",), (), 7), ("q", ("lamp",), (), 9), ("r", ("wire",), ("p",), 7)),
+        plan = Plan(Catalogue(2, (lamp, wire)), (), (("p", ("lamp",), (), 7), ("q", ("lamp",), (), 9),
+                                                     ("r", ("wire",), ("p",), 7)),
                     ("q", "r"))
         case = Case(plan, ("lamp", "lamp", "wire", "lamp", "wire"), (0, 1, 2), (3, 4),
                     ((1, 0, 0, 0, 0), (0, 1, 0, 0, 0), (0, 0, 1, 0, 0)))
@@ -196,7 +204,8 @@ class BestTest(unittest.TestCase):
             best = Best(case, menu, goal=goal)
             self.assertEqual(best.table, tuple((*node, values[node]) for node in nodes))
             self.assertEqual(best.trap, tuple(node for node in nodes if values[node] == -1))
-            self.assertEqual((best.value, bool(best)), (None, False) if values[nodes[0]] == -1 else (values[nodes[0]], True))
+            self.assertEqual((best.value, bool(best)), (None, False) if values[nodes[0]] == -1 else (values[nodes[0]],
+                True))
             if not best:
                 self.assertEqual(error_of(best.written), ("NoManual", len(best.trap)))
                 self.assertEqual(error_of(best.worst), ("NoManual", len(best.trap)))
@@ -283,7 +292,8 @@ class BestManualTest(unittest.TestCase):
             self.assertGreaterEqual(rank(Best(fewer, menu)), worth)
             # More minutes for a place.
             longer = plan.changed(places=(plan.places[0], (*plan.places[1][:3], 60)))
-            slow = Best(Case(longer, case.kinds, case.placed, case.shelf, case.worlds), Menu(longer, menu.tests, menu.looks))
+            slow = Best(Case(longer, case.kinds, case.placed, case.shelf, case.worlds),
+                        Menu(longer, menu.tests, menu.looks))
             self.assertGreaterEqual(rank(slow), worth)
             for name, other in (("looks", more), ("parts", Best(parts, menu)), ("slow", slow)):
                 changed[name] = changed.get(name, 0) + (rank(other) != worth)

@@ -56,7 +56,8 @@ class CalledBackTest(unittest.TestCase):
 
     def test_several_machines_and_one_without_places(self):
         house = wire_house()
-        house.enter(("come", "pass", "new"), ("come", "cell", "new"), ("build", "b", "bare", ()), ("build", "a", "wire", (4 + 1, 6)),
+        house.enter(("come", "pass", "new"), ("come", "cell", "new"), ("build", "b", "bare", ()),
+                    ("build", "a", "wire", (4 + 1, 6)),
                     ("build", "z", "wire", (4, 3)), ("give", "z"), ("give", "b"), ("give", "a"), ("give", "m"))
         calls = called_back(house)
         # The machine z with the turner does not act as whole in whatever world, the first of all is that where all are whole.
@@ -143,7 +144,8 @@ class ClearanceTest(unittest.TestCase):
     def test_papers_that_go_through_parts(self):
         # The wire was broken on day 0, and it is not in the machine any more; there is no other break.
         house = House(WIRE.catalogue, (("wire", WIRE),))
-        house.enter(("come", "pass", "old"), ("come", "cell", "new"), ("come", "pass", "new"), ("build", "m", "wire", (0, 1)),
+        house.enter(("come", "pass", "old"), ("come", "cell", "new"), ("come", "pass", "new"),
+                    ("build", "m", "wire", (0, 1)),
                     ("told", 4, "old", 1, 1), ("told", 4, "new", 0, 0), ("swap", "m", "g", 2), ("day",))
         papers = self.assert_clear(house, "m")
         self.assertEqual(len(papers), 5)
@@ -152,7 +154,8 @@ class ClearanceTest(unittest.TestCase):
     def test_worlds_in_which_it_acts_all_the_same(self):
         # The cell is stuck, but not as the exit shows it, when the wire gives 0 for ever; with 1 break that is not so.
         house = wire_house(most=2)
-        house.enter(("swap", "m", "g", 2), ("seen", 7, "m", ((1,), (1,)), ((1, "g", 1),)), ("told", 7, "old", 0, 0), ("told", 7, "new", 0, 0))
+        house.enter(("swap", "m", "g", 2), ("seen", 7, "m", ((1,), (1,)), ((1, "g", 1),)), ("told", 7, "old", 0, 0),
+                    ("told", 7, "new", 0, 0))
         papers = self.assert_clear(house, "m")
         self.assertEqual(len(worlds(house)), 1)
         self.assertTrue(all(many_papers(paper) >= 1 for _, paper in papers))

@@ -39,7 +39,8 @@ class FlowTest(unittest.TestCase):
     def test_leave_in_a_repeat_in_a_repeat(self):
         body = ("repeat", 2, (("repeat", 2, (("say", "g"), LEAVE, DONE)), ("say", "c"), LEAVE))
         self.assertEqual(flow(manual_of(body, DONE)), (
-            ("say", "g", 2), ("say", "g", 2), ("say", "c", 6), ("say", "g", 5), ("say", "g", 5), ("say", "c", 6), DONE, QUIT))
+            ("say", "g", 2), ("say", "g", 2), ("say", "c", 6), ("say", "g", 5), ("say", "g", 5), ("say", "c", 6), DONE,
+            QUIT))
 
     def test_leave_at_the_beginning_and_behind_what_is_empty(self):
         self.assertEqual(flow(manual_of(("repeat", 3, (LEAVE,)), ("say", "g"))), (("say", "g", 1), QUIT))
@@ -49,8 +50,10 @@ class FlowTest(unittest.TestCase):
             self.assertEqual(flow(manual_of(("repeat", 2, (("say", "g"), empty, LEAVE, DONE)), ("say", "c"), sub=())),
                              (("say", "g", 2), ("say", "g", 2), ("say", "c", 3), QUIT))
         # In both bodies of an if, with more behind it that only the other body comes to.
-        self.assertEqual(flow(manual_of(("repeat", 2, (("if", (0,), (LEAVE, DONE), (("say", "g"),)), ("say", "c"))), DONE)), (
-            ("if", (0,), 6, 1), ("say", "g", 2), ("say", "c", 3), ("if", (0,), 6, 4), ("say", "g", 5), ("say", "c", 6), DONE,
+        self.assertEqual(flow(manual_of(("repeat", 2, (("if", (0,), (LEAVE, DONE), (("say", "g"),)), ("say", "c"))),
+                                        DONE)), (
+            ("if", (0,), 6, 1), ("say", "g", 2), ("say", "c", 3), ("if", (0,), 6, 4), ("say", "g", 5), ("say", "c", 6),
+            DONE,
             QUIT))
         self.assertEqual(flow(manual_of(("repeat", 2, (("if", (0,), (LEAVE,), (LEAVE,)), ("say", "c"))))), (
             ("if", (0,), 4, 4), ("say", "c", 2), ("if", (0,), 4, 4), ("say", "c", 4), QUIT))
@@ -65,12 +68,14 @@ class FlowTest(unittest.TestCase):
 
     def test_chapters_called_twice_and_one_in_another(self):
         low = (("if", (1,), (("say", "g"),), ()),)
-        self.assertEqual(flow(manual_of(("call", "sub"), ("call", "low"), DONE, sub=(("call", "low"), ("call", "empty")), low=low,
+        self.assertEqual(flow(manual_of(("call", "sub"), ("call", "low"), DONE,
+                                        sub=(("call", "low"), ("call", "empty")), low=low,
                                         empty=())), (
             ("if", (1,), 1, 2), ("say", "g", 2), ("if", (1,), 3, 4), ("say", "g", 4), DONE, QUIT))
 
     def test_call(self):
-        self.assertEqual(flow(manual_of(("repeat", 2, (("call", "sub"),)), sub=(("if", (1,), (QUIT,), ()), ("say", "g")))), (
+        self.assertEqual(flow(manual_of(("repeat", 2, (("call", "sub"),)),
+                                        sub=(("if", (1,), (QUIT,), ()), ("say", "g")))), (
             ("if", (1,), 1, 2), QUIT, ("say", "g", 3), ("if", (1,), 4, 5), QUIT, ("say", "g", 6), QUIT))
 
     def test_what_stands_behind_an_end_is_written_out(self):

@@ -200,6 +200,13 @@ class FormTest(unittest.TestCase):
         for name in generators:
             self.assertEqual((names.count(name), name in METHODS), (1, False), name)
 
+    def test_attributes_that_are_read_are_assigned(self):
+        assigned = {node.attr for _, node in self.each(ast.Attribute) if isinstance(node.ctx, ast.Store)}
+        own = {node.name for _, node in self.each(ast.FunctionDef)}
+        for at, node in self.each(ast.Attribute):
+            if isinstance(node.ctx, ast.Load) and node.attr != "setter":
+                self.assertIn(node.attr, assigned | own | METHODS | {"__init__"}, at)
+
     def test_special_methods(self):
         for at, node in self.each(ast.FunctionDef):
             last = node.body[-1]

@@ -67,7 +67,8 @@ def is_own_list(function, name):
 
 def holds_own_lists(function, name):
     """Whether all items of a local variable are new, too, as far as they are put in by `found[k] = ..`."""
-    if not is_own_list(function, name) or any(ast.unparse(value) not in ("{}", "[]") for value in assigned_to(function, name)):
+    if not is_own_list(function, name) or any(ast.unparse(value) not in ("{}", "[]") for value in assigned_to(function,
+        name)):
         return False
     put = [node.value for node in body_of(function) if isinstance(node, ast.Assign) for target in node.targets
            if isinstance(target, ast.Subscript) and ast.unparse(target.value) == name]
@@ -154,7 +155,8 @@ class Code:
         return faults, called
 
     def makes_itself(self, function, node):
-        return function.name == "__init__" and isinstance(node.value, ast.Name) and node.value.id == function.args.args[0].arg
+        return function.name == "__init__" and isinstance(node.value,
+                                                          ast.Name) and node.value.id == function.args.args[0].arg
 
     def look_at_call(self, module, function, node):
         """Why a call may not stand here, or None; and what it calls."""
@@ -180,13 +182,15 @@ class Code:
         # Methods count by their names: with two of one name, a harmless one can stand for one that is not.
         if len(own) > 1:
             return f"it calls {name}, which is a method of {', '.join(sorted(box.name for _, box, _ in own))}", []
-        if not own and any(name in attributes for attributes in self.attributes()):
+        # Where a class has an attribute of this name, it may be that what is held is called.
+        if any(name in attributes for attributes in self.attributes()):
             return "it calls what it holds", []
         return None, [(where, method, box.name, False) for where, box, method in own]
 
     def attributes(self):
         for (_, _), box in self.classes.items():
-            yield {node.attr for node in ast.walk(box) if isinstance(node, ast.Attribute) and isinstance(node.ctx, ast.Store)}
+            yield {node.attr for node in ast.walk(box) if isinstance(node, ast.Attribute) and isinstance(node.ctx,
+                ast.Store)}
 
 
 def faults_of(text, **others):
@@ -243,7 +247,8 @@ class OperatorsTest(unittest.TestCase):
                 ("told(1)", "pass", "return x", []), ("told(1)", "pass", "x.clear()", NOT_CREATED),
                 ("told(1)", "x.clear()", "pass", []), ("self.low.told(1)", "x.clear()", "pass", NOT_CREATED),
                 ("self.low.told(1)", "self.rows = x", "pass", ["it assigns an attribute"]),
-                ("self.rows(1)", "pass", "pass", ["it calls what it holds"])):
+                ("self.rows(1)", "pass", "pass", ["it calls what it holds"]),
+                ("self.low.told(1)", "self.told = x", "pass", ["it calls what it holds"])):
             self.assertEqual(faults_of(text.format(call), low=low.format(row, inner)), faults, call)
 
     def test_methods_of_one_name(self):

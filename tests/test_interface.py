@@ -88,7 +88,8 @@ CLASSES = {
     ("runs", "Run"): ("deeds", "__eq__"),
     ("verdicts", "Verdict"): ("__init__(self, case, manual, limit, *, strict=True)", "__bool__", "__len__", "__iter__"),
     ("menus", "Menu"): ("__init__(self, plan, tests, looks)", "__len__", "__iter__", "__eq__", "test_row(self, name)"),
-    ("best", "Best"): ("__init__(self, case, menu, *, goal=None)", "__bool__", "__len__", "__iter__", "trap", "written(self)",
+    ("best", "Best"): ("__init__(self, case, menu, *, goal=None)", "__bool__", "__len__", "__iter__", "trap",
+                       "written(self)",
                        "answer(self, node, deed)", "worst(self)"),
     ("folding", "Folded"): ("__init__(self, plan, names, kind)", "unfold(self, filling)", "fold(self, filling)"),
 }

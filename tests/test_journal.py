@@ -12,13 +12,16 @@ from tinkerhall.journal import read_journal, taken_up, write_journal
 from tinkerhall.kinds import Catalogue
 from tinkerhall.signs import WORDS
 
-HEADING = ("signs 2", "kind lamp 0 5", "table 1", "stands dark 0", "kind cell 1 600", "keeps 0", "table 0101", "flees drop 0000",
-           "plan lit", "place p 1 lamp from", "exit p", "plan loop", "entry in", "place c 60 cell from in", "exit c in", "most 2")
+HEADING = ("signs 2", "kind lamp 0 5", "table 1", "stands dark 0", "kind cell 1 600", "keeps 0", "table 0101",
+           "flees drop 0000",
+           "plan lit", "place p 1 lamp from", "exit p", "plan loop", "entry in", "place c 60 cell from in", "exit c in",
+           "most 2")
 ENTRIES = ("come lamp one", "come cell two", "build m lit 0", "build n loop 1", "day",
            "seen 4 n row 1 0 sights 0 in 1 1 c 1", "told 5 one 0 1", "strike 5", "give m")
 LINES = HEADING + ENTRIES
 NAME, NUMBER, DIGITS = "name", r"0|[1-9][0-9]*", "[012]{1,27}"
-PATTERNS = {"signs": ("[23]",), "kind": (NAME, "[012]", NUMBER), "keeps": ("[012]",), "table": (DIGITS,), "stands": (NAME, DIGITS),
+PATTERNS = {"signs": ("[23]",), "kind": (NAME, "[012]", NUMBER), "keeps": ("[012]",), "table": (DIGITS,),
+            "stands": (NAME, DIGITS),
             "flees": (NAME, DIGITS), "plan": (NAME,), "entry": (NAME,), "most": ("[0123]",)}
 
 
@@ -62,7 +65,8 @@ def bad_word(words):
 
 
 BEHIND = {None: ("signs",), "signs": ("kind", "plan", "most"), "kind": ("keeps", "table"), "keeps": ("table",),
-          "table": ("stands", "flees", "kind", "plan", "most"), "plan": ("entry", "place", "exit"), "entry": ("entry", "place", "exit"),
+          "table": ("stands", "flees", "kind", "plan", "most"), "plan": ("entry", "place", "exit"),
+          "entry": ("entry", "place", "exit"),
           "place": ("place", "exit"), "exit": ("plan", "most")}
 
 
@@ -125,13 +129,20 @@ class ReadJournalTest(unittest.TestCase):
         self.assertEqual(error_of(read_journal, lines), ("BadLine", line, word), lines)
 
     def test_bad_lines(self):
-        for at, line, word in ((0, "signs 4", 1), (0, "sign 2", 0), (0, "kind lamp 0 5", 0), (1, "kind lamp 3 5", 2), (1, "kind lamp 0 601", 3),
-                               (2, "table 3", 1), (2, "kind cell 1 600", 0), (3, "stands dark", 2), (5, "keeps 3", 1), (8, "plan", 1),
-                               (8, "plan Lit", 1), (8, "plan plan", 1), (8, "plan lit lit", 2), (8, "entry in", 0), (9, "plan lit", 0),
-                               (9, "place p 0 lamp from", 2), (9, "place p 61 lamp from", 2), (10, "exit", 1), (10, "most 2", 0),
-                               (11, "come lamp one", 0), (15, "most 4", 1), (15, "most", 1), (15, "most 2 2", 2), (15, "most 02", 1),
-                               (15, "day", 0), (16, "come lamp", 2), (16, "most 2", 0), (16, "plan more", 0), (20, "day 1", 1), (20, "", 0),
-                               (21, "seen 4 n row 1 0 sight 0 in 1", 6), (22, "told 5 one 0 11", 4), (24, "give", 1), (24, "odd", 0),
+        for at, line, word in ((0, "signs 4", 1), (0, "sign 2", 0), (0, "kind lamp 0 5", 0), (1, "kind lamp 3 5", 2),
+                               (1, "kind lamp 0 601", 3),
+                               (2, "table 3", 1), (2, "kind cell 1 600", 0), (3, "stands dark", 2), (5, "keeps 3", 1),
+                               (8, "plan", 1),
+                               (8, "plan Lit", 1), (8, "plan plan", 1), (8, "plan lit lit", 2), (8, "entry in", 0),
+                               (9, "plan lit", 0),
+                               (9, "place p 0 lamp from", 2), (9, "place p 61 lamp from", 2), (10, "exit", 1),
+                               (10, "most 2", 0),
+                               (11, "come lamp one", 0), (15, "most 4", 1), (15, "most", 1), (15, "most 2 2", 2),
+                               (15, "most 02", 1),
+                               (15, "day", 0), (16, "come lamp", 2), (16, "most 2", 0), (16, "plan more", 0),
+                               (20, "day 1", 1), (20, "", 0),
+                               (21, "seen 4 n row 1 0 sight 0 in 1", 6), (22, "told 5 one 0 11", 4), (24, "give", 1),
+                               (24, "odd", 0),
                                (24, None, 0), (3, 7, 0), (16, ("day",), 0)):
             lines = list(LINES)
             lines[at] = line
@@ -147,9 +158,11 @@ class ReadJournalTest(unittest.TestCase):
 
     def test_bad_lines_go_ahead_of_errors_of_objects(self):
         lines = list(LINES)
-        faults = ((22, "told 9 one 0 1", ("NoMoment", 9)), (17, "come odd two", ("Unknown", "odd")), (11, "plan lit", ("BadHouse", "plans")),
+        faults = ((22, "told 9 one 0 1", ("NoMoment", 9)), (17, "come odd two", ("Unknown", "odd")),
+                  (11, "plan lit", ("BadHouse", "plans")),
                   (13, "place c 60 lamp from in", ("Unfit", "c")), (9, "place p 1 odd from", ("Unknown", "odd")),
-                  (4, "kind lamp 1 600", ("Twice", "lamp")), (7, "flees drop 0101", ("BadKind", "lamp")), (3, "stands dark 1", ("BadKind", "lamp")))
+                  (4, "kind lamp 1 600", ("Twice", "lamp")), (7, "flees drop 0101", ("BadKind", "lamp")),
+                  (3, "stands dark 1", ("BadKind", "lamp")))
         for at, line, error in faults:
             lines[at] = line
             self.assertEqual(error_of(read_journal, lines), error)
@@ -165,8 +178,10 @@ class ReadJournalTest(unittest.TestCase):
         self.assertEqual(error_of(read_journal, ("signs 2", *five, "most 1")), ("BadHouse", "plans"))
         self.assertIsNone(error_of(read_journal, ("signs 2", *five[:12], "most 1")))
         self.assertEqual(error_of(read_journal, ("signs 2", *five[:3] * 2, "most 1")), ("BadHouse", "plans"))
-        self.assertEqual(error_of(read_journal, ("signs 2", "plan pa", "entry in", "entry in", "exit in", "most 1", "come a b")), ("Twice", "in"))
-        self.assertEqual(error_of(read_journal, ("signs 2", "plan pa", "exit in", "plan pb", "entry in", "entry in", "exit in", "most 1")),
+        self.assertEqual(error_of(read_journal, ("signs 2", "plan pa", "entry in", "entry in", "exit in", "most 1",
+                                                 "come a b")), ("Twice", "in"))
+        self.assertEqual(error_of(read_journal, ("signs 2", "plan pa", "exit in", "plan pb", "entry in", "entry in",
+                                                 "exit in", "most 1")),
                          ("Unknown", "in"))
 
     def test_errors_of_entries(self):
@@ -179,7 +194,8 @@ class ReadJournalTest(unittest.TestCase):
 
     def test_mutated_journals(self):
         chance = random.Random(522)
-        words = ["day", "most", "plan", "exit", "0", "1", "3", "01", "", "x", "Ab", "from", "in", "p", "kind", "table", "61", "come"]
+        words = ["day", "most", "plan", "exit", "0", "1", "3", "01", "", "x", "Ab", "from", "in", "p", "kind", "table",
+                 "61", "come"]
         told = {}
         for _ in range(3000):
             lines = list(LINES)
@@ -270,7 +286,8 @@ class TakenUpTest(unittest.TestCase):
 
     def test_up_to_what_cannot_be_read_or_is_refused(self):
         whole = read_journal(LINES)
-        for bad in ("", "odd", "day ", "day 1", "come lamp", None, 7, "give m", "come odd one", "told 5 one 2 1", "strike 4", "told 10 one 0 0"):
+        for bad in ("", "odd", "day ", "day 1", "come lamp", None, 7, "give m", "come odd one", "told 5 one 2 1",
+                    "strike 4", "told 10 one 0 0"):
             self.assertEqual(taken_up((*LINES, bad, "day")), (whole, len(LINES)), bad)
             self.assertEqual(taken_up([*HEADING, bad, *ENTRIES]), (whole.upto(0), len(HEADING)), bad)
         lines = (*LINES, *["give n", "take n"] * 26)

@@ -3,7 +3,8 @@ import unittest
 
 from tests.judged import Judge
 from tests.raising import error_of
-from tests.repairs import (BOOK, FLASH, any_manual, as_lists, lamp_case, manual_of, many_rich_works, many_wire_works, many_works,
+from tests.repairs import (BOOK, FLASH, any_manual, as_lists, lamp_case, manual_of, many_rich_works, many_wire_works,
+                           many_works,
                            the_case, wide_manual)
 from tests.samples import EMPTY, EXAMPLE
 from tinkerhall.cases import Case
@@ -22,7 +23,8 @@ class StandingsTest(unittest.TestCase):
     def test_in_order(self):
         case = the_case(worlds=((0,) * 5, (2, 0, 0, 0, 0), (1, 0, 0, 0, 0)))
         # The gate is high now and then in the last world, low in the one ahead of it.
-        manual = manual_of(("look", "one", "g"), ("if", (1,), (("say", "g"), ("done",)), (("swap", "g"), ("look", "two", "g"))))
+        manual = manual_of(("look", "one", "g"), ("if", (1,), (("say", "g"), ("done",)),
+                                                  (("swap", "g"), ("look", "two", "g"))))
         swapped = ((2, 1), (3, 4), (("g", 0),))
         self.assertEqual(case.worlds, ((0,) * 5, (1, 0, 0, 0, 0), (2, 0, 0, 0, 0)))
         self.assertEqual(standings_of(case, manual), (
@@ -35,7 +37,8 @@ class StandingsTest(unittest.TestCase):
     def test_no_step_but_quit(self):
         case = Case(EMPTY, (), (), (), ((),))
         self.assertEqual(standings_of(case, manual_of()), ((0, ((), (), ()), -1, (0,)),))
-        self.assertEqual((followers(case, manual_of(), (0, ((), (), ()), -1, (0,))), takes(case, manual_of(), (0, ((), (), ()), 1, ()))),
+        self.assertEqual((followers(case, manual_of(), (0, ((), (), ()), -1, (0,))),
+                          takes(case, manual_of(), (0, ((), (), ()), 1, ()))),
                          ((), 0))
 
     def test_equal_standings_are_told_once(self):
@@ -44,7 +47,8 @@ class StandingsTest(unittest.TestCase):
         case = lamp_case(0)
         both = Manual(FLASH, (("main", (("look", "now", "b"), ("if", (1,), (("say", "b"),), ()), ("look", "now", "b"))),))
         self.assertEqual(standings_of(case, both), tuple(
-            (at, ((0, 1), (), ()), sign, (0,)) for at, sign in ((0, -1), (1, 0), (1, 1), (3, 0), (2, 1), (4, 0), (4, 1), (3, 1))))
+            (at, ((0, 1), (), ()), sign, (0,)) for at, sign in ((0, -1), (1, 0), (1, 1), (3, 0), (2, 1), (4, 0), (4, 1),
+                                                                (3, 1))))
 
     def test_as_told_for_many(self):
         standings = 0
@@ -111,13 +115,17 @@ class StandingsTest(unittest.TestCase):
         wide = Manual((("one", ((0,),)), ("two", ((0, 0),)), ("three", ((2,),))), (("main", (("look", "one", "odd"),)),))
         odd = manual_of(("say", "g"), ("look", "one", "odd"), ("swap", "in"))
         place = manual_of(("say", "g"), sub=(("back", "in"), ("look", "one", "odd")))
-        calls = {"standings_of": lambda manual: standings_of(case, manual), "followers": lambda manual: followers(case, manual, None),
+        calls = {"standings_of": lambda manual: standings_of(case, manual),
+                 "followers": lambda manual: followers(case, manual, None),
                  "takes": lambda manual: takes(case, manual, None), "Verdict": lambda manual: Verdict(case, manual, None),
-                 "judge_table": lambda manual: judge_table(case, manual, 5, None), "bills": lambda manual: bills(case, manual),
+                 "judge_table": lambda manual: judge_table(case, manual, 5, None),
+                 "bills": lambda manual: bills(case, manual),
                  "most_minutes": lambda manual: most_minutes(case, manual), "needs": lambda manual: needs(case, manual),
                  "leaned": lambda manual: leaned(case, manual), "outcomes": lambda manual: outcomes(case, manual, 0),
-                 "first": lambda manual: manuals_alike(case, manual, wide), "follow": lambda manual: follow(case, manual, None),
-                 "second": lambda manual: manuals_alike(case, BOOK, manual), "left_by": lambda manual: left_by(case, manual, None),
+                 "first": lambda manual: manuals_alike(case, manual, wide),
+                 "follow": lambda manual: follow(case, manual, None),
+                 "second": lambda manual: manuals_alike(case, BOOK, manual),
+                 "left_by": lambda manual: left_by(case, manual, None),
                  "runs_in": lambda manual: list(runs_in(case, manual, 0)), "called": lambda manual: manual(case, None)}
         for name, call in calls.items():
             self.assertEqual(error_of(call, wide), ("BadTest", "two"), name)

@@ -2,7 +2,8 @@ import unittest
 
 from tests.judged import Judge
 from tests.raising import error_of
-from tests.repairs import (BLINKED, FLASH, MEND, ONE, STUCK, TESTS, TURN, ZERO, lamp_case, manual_of, many_rich_works, many_wire_works, many_works,
+from tests.repairs import (BLINKED, FLASH, MEND, ONE, STUCK, TESTS, TURN, ZERO, lamp_case, manual_of, many_rich_works,
+                           many_wire_works, many_works,
                            wire_case)
 from tests.samples import STILL
 from tinkerhall.cases import Case
@@ -50,10 +51,12 @@ class LeanedTest(unittest.TestCase):
 
     def test_put_back(self):
         case = wire_case(ZERO)
-        self.assertEqual(lean_body(case, ("back", "g"), SWAP, ("back", "c"), ("back", "g"), ("back", "g")), (SWAP, ("back", "g"), QUIT))
+        self.assertEqual(lean_body(case, ("back", "g"), SWAP, ("back", "c"), ("back", "g"), ("back", "g")),
+                         (SWAP, ("back", "g"), QUIT))
 
     def test_one_chapter_with_the_name_of_the_first(self):
-        manual = Manual(TESTS, (("first", (("repeat", 2, (("call", "sub"),)),)), ("sub", (("say", "g"), ("call", "low"))), ("low", ())))
+        manual = Manual(TESTS, (("first", (("repeat", 2, (("call", "sub"),)),)),
+                                ("sub", (("say", "g"), ("call", "low"))), ("low", ())))
         self.assertEqual(leaned(wire_case(), manual), Manual((), (("first", (("say", "g"), ("say", "g"), QUIT)),)))
 
     def test_tests_in_their_order(self):
@@ -63,13 +66,15 @@ class LeanedTest(unittest.TestCase):
         lean = leaned(case, manual)
         # Whether 0 or 1 is read of the first test, the other one tells whether the wire is whole.
         self.assertEqual(lean.tests, (tests[1], tests[2]))
-        self.assertEqual(lean["main"], (("look", "tb", "g"), ("if", (0,), (QUIT,), (("look", "ta", "g"), ("if", (0,), (QUIT,), (QUIT,))))))
+        self.assertEqual(lean["main"], (("look", "tb", "g"), ("if", (0,), (QUIT,),
+                                                              (("look", "ta", "g"), ("if", (0,), (QUIT,), (QUIT,))))))
 
     def test_three_signs(self):
         lamp = Kind(3, "lamp", 0, (0,), ways=(("stands", "one", (1,)), ("stands", "two", (2,))))
         plan = Plan(Catalogue(3, (lamp,)), (), (("p", ("lamp",), (), 1),), ("p",))
         look = ("look", "now", "p")
-        manual = Manual(FLASH, (("main", (look, ("if", (1, 2), (("say", "p"),), ()), ("if", (2,), (("swap", "p"),), ()), DONE)),))
+        manual = Manual(FLASH, (("main", (look, ("if", (1, 2), (("say", "p"),), ()), ("if", (2,), (("swap", "p"),), ()),
+                                          DONE)),))
         case = Case(plan, ("lamp", "lamp"), (0,), (1,), ((0, 0), (1, 0), (2, 0)))
         three = (look, ("if", (0,), (DONE,), (("if", (1,), (("say", "p"), DONE), (("say", "p"), ("swap", "p"), DONE)),)))
         self.assertEqual(leaned(case, manual)["main"], three)
@@ -134,7 +139,8 @@ class LeanedTest(unittest.TestCase):
     def test_stuck(self):
         # A test that no world can pass by leaves the body of the other sign out.
         case = wire_case(STUCK)
-        self.assertEqual(lean_body(case, ("look", "two", "c"), ("if", (1,), (DONE,), (("swap", "c"), DONE))), (("swap", "c"), DONE))
+        self.assertEqual(lean_body(case, ("look", "two", "c"), ("if", (1,), (DONE,), (("swap", "c"), DONE))),
+                         (("swap", "c"), DONE))
 
 
 def _all(body):

@@ -73,7 +73,8 @@ def secret_news(chance, house, machine, world):
     """News of the machine as it is today in this world."""
     plan, filling = plain_filling(house, machine, world)
     row = any_row(chance, plan, 3)
-    drive = [chance.choice(list(itertools.product(*[(0, 1) if plan.catalogue[kind].flees(told) else (0,) for kind, told in filling])))
+    drive = [chance.choice(list(itertools.product(*[(0, 1) if plan.catalogue[kind].flees(told) else (0,) for kind,
+                                                    told in filling])))
              for _ in row]
     shown = run(plan, filling, row, drive)
     line = chance.choice(plan.lines)
@@ -129,7 +130,7 @@ class BreachTest(unittest.TestCase):
         chance = random.Random(602)
         words = {}
         for house, name, best in wired_houses():
-            for _ in range(8):
+            for _ in range(5):
                 manual = any_manual(chance, WIRE, 2)
                 limit = chance.choice((0, 3, 6, 60, 60))
                 strict = chance.random() < 0.5
@@ -202,7 +203,8 @@ class FoldedHouseTest(unittest.TestCase):
             catalogue = any_catalogue(chance, 2)
             catalogue = Catalogue(2, catalogue.kinds[:7])
             plan = any_plan(chance, catalogue, chance.choice((1, 2)), 3)
-            plan = plan.changed(places=[(name, kinds[:1], sources, minutes) for name, kinds, sources, minutes in plan.places])
+            plan = plan.changed(places=[(name, kinds[:1], sources, minutes) for name, kinds, sources,
+                                        minutes in plan.places])
             found = [block for block in blocks(plan) if error_of(Folded, plan, block, "fold") is None]
             if not found:
                 continue
@@ -398,7 +400,8 @@ class JournalTest(unittest.TestCase):
             lines, new = renamed(chance, write_journal(house))
             other = read_journal(lines)
             self.assertNotEqual(other, house)
-            self.assertEqual((other.now, other.today, other.most, other.in_force()), (house.now, house.today, house.most, house.in_force()))
+            self.assertEqual((other.now, other.today, other.most, other.in_force()),
+                             (house.now, house.today, house.most, house.in_force()))
             floor, told = house.floor(), other.floor()
             self.assertEqual(told.kinds, tuple(new[kind] for kind in floor.kinds))
             self.assertEqual((told.shelf, told.gone, told.came), (floor.shelf, floor.gone, floor.came))
@@ -478,7 +481,8 @@ def asked_of(house, chance):
             return (error.__class__.__name__, *vars(error).values())
 
     claims = [any_claim(chance, house) for _ in range(2)]
-    answers = [house.now, house.today, house.book, told_of(house.floor()), house.in_force(), candidates(house), told(worlds, house)]
+    answers = [house.now, house.today, house.book, told_of(house.floor()), house.in_force(), candidates(house),
+               told(worlds, house)]
     for call in (fewest, least_worlds, sure_parts, cleared_parts, open_parts, called_back):
         answers.append(told(call, house))
     for claim in claims:
@@ -498,7 +502,8 @@ def asked_of(house, chance):
             answers += [case.arrangement, case.worlds, case.kinds, answer(admitted(house, name, manual, 20))]
             with Trial(house):
                 done = told(do_manual, house, name, manual, (0, 1))
-                answers += [done if isinstance(done, tuple) else (done.events, done.arrangement, done.ended), told(worlds, house)]
+                answers += [done if isinstance(done, tuple) else (done.events, done.arrangement, done.ended),
+                            told(worlds, house)]
     answers.append(write_journal(house))
     return answers
 

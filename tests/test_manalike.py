@@ -3,7 +3,8 @@ import unittest
 
 from tests.judged import Judge, plain_alike
 from tests.raising import error_of
-from tests.repairs import (BLINKED, FLASH, MEND, STUCK, TURN, ZERO, any_manual, lamp_case, manual_of, many_rich_works, many_wire_works, many_works,
+from tests.repairs import (BLINKED, FLASH, MEND, STUCK, TURN, ZERO, any_manual, lamp_case, manual_of, many_rich_works,
+                           many_wire_works, many_works,
                            wide_manual, wire_case)
 from tests.samples import EMPTY
 from tinkerhall.cases import Case
@@ -37,7 +38,8 @@ class OutcomesTest(unittest.TestCase):
     def test_many_runs_of_one_outcome(self):
         case = lamp_case(0)
         self.assertEqual(outcomes(case, lamps(("repeat", 4, (BLINKED,) * 30)), 0), ((QUIT,),))
-        self.assertEqual(outcomes(case, lamps(BLINKED, BLINKED, ("if", (1,), (SAY_S,), ())), 0), ((QUIT,), (("say", "s", 1), QUIT)))
+        self.assertEqual(outcomes(case, lamps(BLINKED, BLINKED, ("if", (1,), (SAY_S,), ())), 0),
+                         ((QUIT,), (("say", "s", 1), QUIT)))
 
     def test_no_place(self):
         case = Case(EMPTY, (), (), (), ((),))
@@ -77,7 +79,9 @@ class ManualsAlikeTest(unittest.TestCase):
         # How they find it out does not count.
         self.assertIsNone(manuals_alike(case, manual_of(*MEND), manual_of(("look", "two", "in"), *MEND)))
         # Of the part that comes and goes, too, the first look tells.
-        self.assertIsNone(manuals_alike(case, manual_of(*MEND), manual_of(LOOK, ("if", (0,), (("repeat", 1, (SWAP,)),), ()), DONE)))
+        self.assertIsNone(manuals_alike(case, manual_of(*MEND), manual_of(LOOK,
+                                                                          ("if", (0,), (("repeat", 1, (SWAP,)),), ()),
+                                                                          DONE)))
 
     def test_the_first_difference(self):
         case = wire_case((), ZERO, TURN)
@@ -109,7 +113,8 @@ class ManualsAlikeTest(unittest.TestCase):
         odd = lamps(("say", "odd"))
         long = wide_manual(12)
         many = lamps(*ONE_MORE)
-        wrong = {("BadTest", "now"): wide, ("Unknown", "odd"): odd, ("TooMany", "standing"): long, ("TooMany", "outcome"): many}
+        wrong = {("BadTest", "now"): wide, ("Unknown", "odd"): odd, ("TooMany", "standing"): long,
+                 ("TooMany", "outcome"): many}
         for error, first in wrong.items():
             for second in wrong.values():
                 self.assertEqual(error_of(manuals_alike, case, first, second), error)

@@ -13,7 +13,8 @@ from tinkerhall.signs import WORDS
 
 STEP, SIGN, TIMES = r"-|[012]{1,2}", "[012]", "[1234]"
 # For each word the patterns of the words behind it; those with a number can stand so often.
-PATTERNS = {"test": ("name", (STEP, 8)), "chapter": ("name",), "look": ("name", "name"), "swap": ("name",), "back": ("name",),
+PATTERNS = {"test": ("name", (STEP, 8)), "chapter": ("name",), "look": ("name", "name"), "swap": ("name",),
+            "back": ("name",),
             "say": ("name",), "call": ("name",), "if": ((SIGN, 3),), "repeat": ((TIMES, 1),), "leave": (), "done": (),
             "quit": (), "else": (), "end": ()}
 STATEMENTS = ("look", "swap", "back", "say", "if", "repeat", "leave", "call", "done", "quit")
@@ -82,17 +83,21 @@ class ReadManualTest(unittest.TestCase):
         self.assertEqual(error_of(read_manual, ("test one 0", "test one 0")), ("BadManual", "chapters"))
 
     def test_what_is_read(self):
-        lines = ("test one - -", "test two 2", "chapter main", "repeat 4", "leave", "if 0 1 2", "end", "end", "call sub", "end",
+        lines = ("test one - -", "test two 2", "chapter main", "repeat 4", "leave", "if 0 1 2", "end", "end",
+                 "call sub", "end",
                  "chapter sub", "if 1", "else", "quit", "end", "end")
         self.assertEqual(read_manual(lines), Manual((("one", ((), ())), ("two", ((2,),))), (
             ("main", (("repeat", 4, (("leave",), ("if", (0, 1, 2), (), ()))), ("call", "sub"))),
             ("sub", (("if", (1,), (), (("quit",),)),)))))
 
     def test_tests(self):
-        for line, word in (("test", 1), ("test One 0", 1), ("test end 0", 1), ("test  one 0", 1), ("test one", 2), ("test one 3", 2),
-                           ("test one 012", 2), ("test one --", 2), ("test one 0-", 2), ("test one  0", 2), ("test one 0 ", 3),
+        for line, word in (("test", 1), ("test One 0", 1), ("test end 0", 1), ("test  one 0", 1), ("test one", 2),
+                           ("test one 3", 2),
+                           ("test one 012", 2), ("test one --", 2), ("test one 0-", 2), ("test one  0", 2),
+                           ("test one 0 ", 3),
                            ("test one 0 0x", 3), ("test one 0 0 0 0 0 0 0 0 0", 10), ("test one - - - - - - - - x", 10),
-                           ("test ninechars 0", 1), (" test one 0", 0), ("tests one 0", 0), ("", 0), (" ", 0), ("Test one 0", 0),
+                           ("test ninechars 0", 1), (" test one 0", 0), ("tests one 0", 0), ("", 0), (" ", 0),
+                           ("Test one 0", 0),
                            ("end", 0), ("look one g", 0), ("else", 0)):
             self.assertEqual(error_of(read_manual, ("test two 0", line, "odd")), ("BadLine", 1, word), line)
 
@@ -105,13 +110,18 @@ class ReadManualTest(unittest.TestCase):
             self.assertEqual(error_of(read_manual, ("chapter main", "end", line)), ("BadLine", 2, 0), line)
 
     def test_statements(self):
-        for line, word in (("look", 1), ("look one", 2), ("look one g g", 3), ("look 1 g", 1), ("look one G", 2), ("look one 1", 2),
-                           ("look look g", 1), ("swap", 1), ("swap g 0", 2), ("swap from", 1), ("back", 1), ("back g g", 2), ("say", 1),
+        for line, word in (("look", 1), ("look one", 2), ("look one g g", 3), ("look 1 g", 1), ("look one G", 2),
+                           ("look one 1", 2),
+                           ("look look g", 1), ("swap", 1), ("swap g 0", 2), ("swap from", 1), ("back", 1),
+                           ("back g g", 2), ("say", 1),
                            ("say g ", 2), ("call", 1), ("call main sub", 2), ("call 0", 1), ("leave 1", 1), ("leave ", 1),
-                           ("done main", 1), ("quit 0", 1), ("if", 1), ("if 3", 1), ("if 01", 1), ("if x", 1), ("if 0 1 2 0", 4),
-                           ("if 0 1 2 x", 4), ("if 0  1", 2), ("if -1", 1), ("if +1", 1), ("if 0 3", 2), ("if 0,1", 1), ("repeat", 1),
+                           ("done main", 1), ("quit 0", 1), ("if", 1), ("if 3", 1), ("if 01", 1), ("if x", 1),
+                           ("if 0 1 2 0", 4),
+                           ("if 0 1 2 x", 4), ("if 0  1", 2), ("if -1", 1), ("if +1", 1), ("if 0 3", 2), ("if 0,1", 1),
+                           ("repeat", 1),
                            ("repeat 0", 1), ("repeat 5", 1), ("repeat 01", 1), ("repeat +1", 1), ("repeat 1.0", 1),
-                           ("repeat 2 3", 2), ("repeat x", 1), ("repeat 44", 1), ("repeat " + "4" * 50, 1), ("chapter sub", 0), ("test two 0", 0), ("else", 0),
+                           ("repeat 2 3", 2), ("repeat x", 1), ("repeat 44", 1), ("repeat " + "4" * 50, 1),
+                           ("chapter sub", 0), ("test two 0", 0), ("else", 0),
                            ("", 0), (" done", 0), ("Done", 0), ("odd", 0), ("done;", 0)):
             self.assertEqual(error_in("done", line, "odd"), (1, word), line)
         for thing in (None, 7, True, ("done",), ["done"], {}, b"done"):
@@ -135,7 +145,8 @@ class ReadManualTest(unittest.TestCase):
         self.assertEqual(error_of(read_manual, ["chapter main", "if 0", "else"]), ("BadLine", 3, 0))
 
     def test_bad_lines_go_ahead_of_errors_of_the_manual(self):
-        wrong = ("test one 0 01", "test one 0", "chapter main", "call odd", "look odd g", "leave", "end", "chapter main", "end")
+        wrong = ("test one 0 01", "test one 0", "chapter main", "call odd", "look odd g", "leave", "end",
+                 "chapter main", "end")
         self.assertEqual(error_of(read_manual, wrong), ("BadManual", "tests"))
         self.assertEqual(error_of(read_manual, (*wrong, "end")), ("BadLine", 9, 0))
         self.assertEqual(error_of(read_manual, wrong[1:]), ("Twice", "main"))
@@ -169,7 +180,8 @@ class ReadManualTest(unittest.TestCase):
 
     def test_mutated_texts(self):
         chance = random.Random(203)
-        words = ["done", "end", "else", "if", "0", "1", "2", "3", "4", "5", "-", "01", "", "repeat", "look", "one", "g", "test",
+        words = ["done", "end", "else", "if", "0", "1", "2", "3", "4", "5", "-", "01", "", "repeat", "look", "one", "g",
+                 "test",
                  "chapter", "leave", "call", "x", "Ab", "00 1", "from", "end end"]
         told = {}
         for _ in range(4000):

@@ -25,7 +25,8 @@ def nested(many, inner):
 
 class ManualTest(unittest.TestCase):
     def test_attributes(self):
-        manual = Manual([["one", [[0], [1]]]], [["main", [["if", [0, 2], [["done"]], []], ["look", "one", "g"]]], ["sub", []]])
+        manual = Manual([["one", [[0], [1]]]], [["main", [["if", [0, 2], [["done"]], []], ["look", "one", "g"]]],
+                                                ["sub", []]])
         self.assertEqual(manual.tests, (("one", ((0,), (1,))),))
         self.assertEqual(manual.chapters, (("main", (("if", (0, 2), (DONE,), ()), ("look", "one", "g"))), ("sub", ())))
         self.assertEqual((len(manual), list(manual)), (2, ["main", "sub"]))
@@ -102,7 +103,8 @@ class ManualTest(unittest.TestCase):
         self.assertEqual(joined(plain(tests[:4], *chapters), plain(tests[:4], ("more", ()))), ("BadManual", "chapters"))
         self.assertIsNone(joined(plain(tests[:4], *chapters[:3]), plain(tests[4:], *chapters[3:])))
         self.assertEqual(joined(plain(tests[:2], ("main", ())), plain(tests[1:3], ("main", ()))), ("Twice", "tb"))
-        self.assertEqual(joined(plain(tests[:2], ("main", (DONE,) * 200)), plain(tests[2:], ("main", (DONE,)))), ("Twice", "main"))
+        self.assertEqual(joined(plain(tests[:2], ("main", (DONE,) * 200)), plain(tests[2:], ("main", (DONE,)))),
+                         ("Twice", "main"))
         self.assertEqual(joined(plain((), ("main", (DONE,) * 200)), plain((), ("sub", (DONE,)))), ("TooLong", 201))
         self.assertIsNone(joined(plain((), ("main", (DONE,) * 199)), plain((), ("sub", (DONE,)))))
 
@@ -177,13 +179,16 @@ class BadManualTest(unittest.TestCase):
         self.assertIsNone(error_of(Manual, TESTS, (("one", ()), ("two", ()))))
 
     def test_bad_statements(self):
-        bad = (None, 7, "done", (), ("odd",), (None,), (["done"],), ("done", 1), ("quit", ()), ("leave", 0), ("look", "one"),
+        bad = (None, 7, "done", (), ("odd",), (None,), (["done"],), ("done", 1), ("quit", ()), ("leave", 0),
+               ("look", "one"),
                ("look", "one", "g", "g"), ("look", "one", 0), ("look", "test", "g"), ("look", None, "g"), ("swap",),
                ("swap", "g", 1), ("swap", 2), ("back", "from"), ("say", "G"), ("say", ""), ("if", (0,), ()),
-               ("if", (), (), ()), ("if", (1, 0), (), ()), ("if", (0, 0), (), ()), ("if", (3,), (), ()), ("if", (1, 3), (), ()), ("if", (-1, 0), (), ()), ("if", (0, None), (), ()), ("if", (-1,), (), ()),
+               ("if", (), (), ()), ("if", (1, 0), (), ()), ("if", (0, 0), (), ()), ("if", (3,), (), ()),
+               ("if", (1, 3), (), ()), ("if", (-1, 0), (), ()), ("if", (0, None), (), ()), ("if", (-1,), (), ()),
                ("if", (True,), (), ()), ("if", 0, (), ()), ("if", "0", (), ()), ("if", (0,), None, ()),
                ("if", (0,), (), "ab"), ("if", (0,), (), (), ()), ("if", (0, 1, 2, 2), (), ()), ("if", (0,), {}, ()),
-               ("repeat", 0, ()), ("repeat", 5, ()), ("repeat", True, ()), ("repeat", "2", ()), ("repeat", 2), ("repeat", 2, 7),
+               ("repeat", 0, ()), ("repeat", 5, ()), ("repeat", True, ()), ("repeat", "2", ()), ("repeat", 2),
+               ("repeat", 2, 7),
                ("repeat", ()), ("call",), ("call", "chapter"), ("call", 0), ("call", "sub", 1), {}, ("if", ([0],), (), ()))
         for statement in bad:
             for inner in (statement, ("if", (0,), (), (DONE, statement)), ("repeat", 2, (("if", (0,), (statement,), ()),))):
@@ -243,7 +248,8 @@ class FitsTest(unittest.TestCase):
         wide = Manual((("one", ((1,),)), ("two", ((2,),)), ("three", ((0, 0),))), (("main", (("swap", "odd"),)),))
         self.assertEqual(error_of(wide.fits, EXAMPLE), ("BadTest", "two"))
         self.assertEqual(error_of(manual_of(("say", "in"), ("swap", "odd")).fits, EXAMPLE), ("Unknown", "in"))
-        self.assertEqual(error_of(manual_of(("look", "one", "in"), ("back", "odd"), ("look", "one", "odder")).fits, EXAMPLE),
+        self.assertEqual(error_of(manual_of(("look", "one", "in"), ("back", "odd"), ("look", "one", "odder")).fits,
+                                  EXAMPLE),
                          ("Unknown", "odd"))
         self.assertEqual(error_of(manual_of(DONE, sub=(("look", "two", "odder"),)).fits, EXAMPLE), ("Unknown", "odder"))
         self.assertEqual(error_of(manual_of(("swap", "g")).fits, EMPTY), ("Unknown", "g"))

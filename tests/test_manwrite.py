@@ -42,9 +42,11 @@ class WriteManualTest(unittest.TestCase):
 
     def test_all_words(self):
         lines = write_manual(Manual((("one", ((), ())), ("two", ((2,),))), (
-            ("main", (("repeat", 3, (("call", "sub"), LEAVE)), ("say", "g"), ("swap", "g"), ("back", "g"), DONE, ("quit",))),
+            ("main", (("repeat", 3, (("call", "sub"), LEAVE)), ("say", "g"), ("swap", "g"), ("back", "g"), DONE,
+                      ("quit",))),
             ("sub", ()))))
-        self.assertEqual(lines, ("test one - -", "test two 2", "chapter main", "repeat 3", "call sub", "leave", "end", "say g",
+        self.assertEqual(lines, ("test one - -", "test two 2", "chapter main", "repeat 3", "call sub", "leave", "end",
+                                 "say g",
                                  "swap g", "back g", "done", "quit", "end", "chapter sub", "end"))
 
     def test_bodies_of_if(self):
@@ -88,12 +90,14 @@ class WriteManualTest(unittest.TestCase):
 
     def test_small_differences(self):
         one = ("look", "one", "g")
-        pairs = ((manual_of(DONE, DONE), manual_of(DONE)), (manual_of(("if", (0,), (), (DONE,))), manual_of(("if", (0,), (DONE,), ()))),
+        pairs = ((manual_of(DONE, DONE), manual_of(DONE)), (manual_of(("if", (0,), (), (DONE,))),
+                                                            manual_of(("if", (0,), (DONE,), ()))),
                  (manual_of(("if", (0,), (DONE,), ()), DONE), manual_of(("if", (0,), (DONE,), (DONE,)))),
                  (manual_of(("repeat", 1, (DONE,)), DONE), manual_of(("repeat", 1, (DONE, DONE)))),
                  (manual_of(("repeat", 1, (DONE,))), manual_of(("repeat", 2, (DONE,)))),
                  (manual_of(one), manual_of(("look", "two", "g"))), (manual_of(one, sub=()), manual_of(one, bus=())),
-                 (manual_of(("if", (0, 1), (), ())), manual_of(("if", (0,), (), ()))), (BOOK, BOOK + Manual((), (("sub", ()),))),
+                 (manual_of(("if", (0, 1), (), ())), manual_of(("if", (0,), (), ()))),
+                 (BOOK, BOOK + Manual((), (("sub", ()),))),
                  (Manual((("one", ((0,),)),), (("main", ()),)), Manual((("one", ((0,), (0,))),), (("main", ()),))),
                  (Manual((("one", ((0, 0),)),), (("main", ()),)), Manual((("one", ((0,), (0,))),), (("main", ()),))))
         for first, second in pairs:

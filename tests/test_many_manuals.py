@@ -4,7 +4,8 @@ import random
 import unittest
 
 from tests.raising import error_of
-from tests.repairs import (BOOK, DROP, ONE, STUCK, TURN, WIRE, ZERO, any_manual, manual_of, many_rich_works, many_wire_works,
+from tests.repairs import (BOOK, DROP, ONE, STUCK, TURN, WIRE, ZERO, any_manual, manual_of, many_rich_works,
+                           many_wire_works,
                            many_works, the_case, wire_case)
 from tests.samples import CATALOGUE
 from tinkerhall.alike import classes

@@ -44,9 +44,12 @@ class MenuTest(unittest.TestCase):
     def test_bad_tests(self):
         test = ("one", ((0,),))
         nine = tuple(("t" + letter, ((0,),)) for letter in "abcdefghi")
-        for tests in (None, "ab", 7, (None,), ("one",), (("one",),), (("one", ((0,),), 1),), (("One", ((0,),)),), (("test", ((0,),)),),
-                      (("one", ()),), (("one", None),), (("one", ((3,),)),), (("one", ((True,),)),), (("one", ((0,), (0, 1))),),
-                      (("one", ((0,),) * 9),), (("one", ((0, 0, 0),)),), nine, (test, test), (test, ("two", ((1,),)), ["one", [[1]]]), {}):
+        for tests in (None, "ab", 7, (None,), ("one",), (("one",),), (("one", ((0,),), 1),), (("One", ((0,),)),),
+                      (("test", ((0,),)),),
+                      (("one", ()),), (("one", None),), (("one", ((3,),)),), (("one", ((True,),)),),
+                      (("one", ((0,), (0, 1))),),
+                      (("one", ((0,),) * 9),), (("one", ((0, 0, 0),)),), nine, (test, test),
+                      (test, ("two", ((1,),)), ["one", [[1]]]), {}):
             self.assertEqual(error_of(Menu, WIRE, tests, None), ("BadMenu", "tests"), tests)
         self.assertIsNone(error_of(Menu, WIRE, nine[:8], ()))
         self.assertIsNone(error_of(Menu, WIRE, (("one", ((0,),) * 8),), ()))
@@ -54,9 +57,11 @@ class MenuTest(unittest.TestCase):
     def test_bad_looks(self):
         wide = (*TESTS, ("wide", ((0, 0),)))
         seven = tuple((name, line) for name in ("one", "two", "odd") for line in WIRE.lines)[:7]
-        for looks in (None, 7, "ab", {}, (None,), ("one",), (("one",),), (("one", "g", 1),), (("three", "g"),), (("one", "x"),),
+        for looks in (None, 7, "ab", {}, (None,), ("one",), (("one",),), (("one", "g", 1),), (("three", "g"),),
+                      (("one", "x"),),
                       (("g", "one"),), (("one", "pass"),), ((0, "g"),), (("one", 1),), (("one", True),), ((["one"], "g"),),
-                      (("one", ["g"]),), (("one", "g"), ("one", "g")), (("one", "g"), ["one", "g"]), (("one", "g"), None), seven,
+                      (("one", ["g"]),), (("one", "g"), ("one", "g")), (("one", "g"), ["one", "g"]),
+                      (("one", "g"), None), seven,
                       (*LOOKS, ("one", "odd"))):
             self.assertEqual(error_of(Menu, WIRE, wide, looks), ("BadMenu", "looks"), looks)
         self.assertIsNone(error_of(Menu, WIRE, TESTS, seven[:6]))

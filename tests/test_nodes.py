@@ -20,7 +20,8 @@ class IsMetTest(unittest.TestCase):
     def test_without_a_goal(self):
         case = wire_case((), ZERO, ((2, 1),))
         self.assertEqual(case.worlds, ((0,) * 5, (0, 0, 1, 0, 0), (1, 0, 0, 0, 0)))
-        for left, met in (((0,), True), ((1,), True), ((0, 1), True), ((2,), False), ((0, 2), False), ((0, 1, 2), False), ((), True)):
+        for left, met in (((0,), True), ((1,), True), ((0, 1), True), ((2,), False), ((0, 2), False),
+                          ((0, 1, 2), False), ((), True)):
             self.assertIs(is_met(case, (START, left)), met)
             self.assertIs(is_met(case, [as_lists(START), list(left)], goal=None), met)
         swapped = case.swapped("g")
@@ -108,7 +109,8 @@ class NodesTest(unittest.TestCase):
     def test_without_looks(self):
         case = wire_case(ZERO, ONE, shelf=(4, 2))
         self.assertEqual(nodes(case, NO_LOOKS), (
-            (((0, 1), (4, 2), ()), (0, 1)), (((4, 1), (2,), (("g", 0),)), (0, 1)), (((2, 1), (), (("g", 0), ("g", 4))), (0, 1))))
+            (((0, 1), (4, 2), ()), (0, 1)), (((4, 1), (2,), (("g", 0),)), (0, 1)),
+            (((2, 1), (), (("g", 0), ("g", 4))), (0, 1))))
 
     def test_2000_nodes_and_2001(self):
         case, menu = large_play(2000)
@@ -142,7 +144,8 @@ class NodesTest(unittest.TestCase):
 
     def test_parts_that_fit_nowhere(self):
         self.assertEqual(WIRED[4], "turner")
-        case = Case(WIRE.changed(places=(("g", ("pass",), ("in",), 3), WIRE.places[1])), WIRED, (0, 1), (4,), ((1, 0, 0, 0, 0),))
+        case = Case(WIRE.changed(places=(("g", ("pass",), ("in",), 3), WIRE.places[1])), WIRED, (0, 1), (4,),
+                    ((1, 0, 0, 0, 0),))
         self.assertEqual(nodes(case, NO_LOOKS), ((((0, 1), (4,), ()), (0,)),))
         self.assertEqual(len(nodes(lamp_case(3), Menu(lamp_case(3).plan, (), ()))), 1)
         self.assertEqual(len(nodes(wire_case(DROP), NO_LOOKS)), 2)

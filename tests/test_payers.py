@@ -34,7 +34,8 @@ def plain_payer(house, terms, part, world):
 class PayerInTest(unittest.TestCase):
     def test_payers(self):
         house = day_house()
-        for state, wanted in ((WHOLE, "house"), ((1, 0), "maker"), ((3, 1), "dealer"), ((1, 2), "customer"), ((2, 3), "customer")):
+        for state, wanted in ((WHOLE, "house"), ((1, 0), "maker"), ((3, 1), "dealer"), ((1, 2), "customer"),
+                              ((2, 3), "customer")):
             self.assertEqual(payer_in(house, TERMS, 0, world_with(p0=state)), wanted)
         # Days count from the one on which the part came.
         for state, wanted in (((1, 1), "maker"), ((1, 2), "dealer"), ((1, 3), "customer")):
@@ -55,7 +56,8 @@ class PayerInTest(unittest.TestCase):
         house = day_house()
         house.enter(("told", 10, "old", 0, 0))
         self.assertEqual(payer_in(house, TERMS, 0, world_with(p0=(1, 0), p1=(1, 0), p2=(1, 0))), "maker")
-        self.assertEqual(payer_in(house, [list(clause) for clause in TERMS], 0, [list(state) for state in world_with(p0=(1, 1))]), "dealer")
+        self.assertEqual(payer_in(house, [list(clause) for clause in TERMS], 0,
+                                  [list(state) for state in world_with(p0=(1, 1))]), "dealer")
 
     def test_bad_terms(self):
         house = day_house()
@@ -64,8 +66,10 @@ class PayerInTest(unittest.TestCase):
             for call in (lambda told: payer_in(house, told, 99, None), lambda told: payer(house, told, 99)):
                 self.assertEqual(error_of(call, terms), ("BadTerms", -1))
         for bad in (None, (), "abc", ("maker", "pass"), ("maker", "pass", 0, 0), ("Maker", "pass", 0), ("house", "pass", 0),
-                    ("customer", "any", 0), ("any", "any", 0), (7, "any", 0), ("maker", "odd", 0), ("maker", "old", 0), ("maker", None, 0),
-                    ("maker", ["any"], 0), ("maker", "house", 0), ("maker", "any", -1), ("maker", "any", 10), ("maker", "any", True),
+                    ("customer", "any", 0), ("any", "any", 0), (7, "any", 0), ("maker", "odd", 0), ("maker", "old", 0),
+                    ("maker", None, 0),
+                    ("maker", ["any"], 0), ("maker", "house", 0), ("maker", "any", -1), ("maker", "any", 10),
+                    ("maker", "any", True),
                     ("maker", "any", "1"), ("maker", "any", None), (["maker"], "any", 0)):
             for call in (lambda told: payer_in(house, told, 99, None), lambda told: payer(house, told, 99)):
                 self.assertEqual(error_of(call, (clause, bad, None)), ("BadTerms", 1), bad)
@@ -110,7 +114,8 @@ class PayerTest(unittest.TestCase):
         for house in many_wire_houses(501, 200):
             left = plain_worlds(house, house.now)
             for part in range(len(house.floor().kinds)):
-                terms = tuple((chance.choice(("ma", "mb")), chance.choice(("pass", "cell", "turner", "any")), chance.randrange(3))
+                terms = tuple((chance.choice(("ma", "mb")), chance.choice(("pass", "cell", "turner", "any")),
+                               chance.randrange(3))
                               for _ in range(chance.randrange(4)))
                 if not left:
                     self.assertEqual(error_of(payer, house, terms, part), ("NoWorld", house.now))

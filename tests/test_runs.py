@@ -30,7 +30,8 @@ class FollowTest(unittest.TestCase):
 
     def test_runs_that_end(self):
         run = follow(the_case(), BOOK, (1,))
-        self.assertEqual(told_of(run), ((1,), (("look", "one", "g", 1), ("say", "c", 1), ("quit",)), START, 1, 3, 0, "quit"))
+        self.assertEqual(told_of(run), ((1,), (("look", "one", "g", 1), ("say", "c", 1), ("quit",)), START, 1, 3, 0,
+                                        "quit"))
         self.assertEqual((run.step, run.deeds), (8, (("say", "c", 1), ("quit",))))
         run = follow(the_case(), BOOK, (0, 1))
         self.assertEqual((run.ended, run.step, run.events[-2:]), ("done", 5, (("look", "two", "c", 1), ("done",))))
@@ -86,8 +87,10 @@ class FollowTest(unittest.TestCase):
         runs = [follow(the_case(), BOOK, signs) for signs in ((), (0,), (1,), (0, 0), (0, 1))]
         for at, run in enumerate(runs):
             self.assertEqual([run == other for other in runs], [at == number for number in range(5)])
-        told = {"signs": (1,), "events": (), "arrangement": START, "sign": 1, "bill": Bill(1, 2), "step": 3, "ended": "quit"}
-        for name, other in (("signs", (0,)), ("events", (("quit",),)), ("arrangement", ((1, 0), (2, 3, 4), ())), ("sign", 0),
+        told = {"signs": (1,), "events": (), "arrangement": START, "sign": 1, "bill": Bill(1, 2), "step": 3,
+                "ended": "quit"}
+        for name, other in (("signs", (0,)), ("events", (("quit",),)), ("arrangement", ((1, 0), (2, 3, 4), ())),
+                            ("sign", 0),
                             ("bill", Bill(1, 3)), ("step", 4), ("ended", "done")):
             self.assertNotEqual(Run(**told), Run(**{**told, name: other}))
         self.assertEqual(Run(**told), Run(**told))

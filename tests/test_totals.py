@@ -1,7 +1,8 @@
 import unittest
 
 from tests.judged import Judge
-from tests.repairs import (BLINKED, FLASH, MEND, ONE, STUCK, TURN, ZERO, Reader, lamp_case, manual_of, many_rich_works, many_wire_works, many_works,
+from tests.repairs import (BLINKED, FLASH, MEND, ONE, STUCK, TURN, ZERO, Reader, lamp_case, manual_of, many_rich_works,
+                           many_wire_works, many_works,
                            plain_runs, wire_case)
 from tests.samples import EMPTY
 from tinkerhall.cases import Case
@@ -72,7 +73,8 @@ class NeedsTest(unittest.TestCase):
         self.assertEqual(needs(case, manual_of(("swap", "c"), ("swap", "c"))), 2)
         self.assertEqual(needs(case, manual_of(("look", "one", "g"))), 0)
         # Just one run needs it.
-        self.assertEqual(needs(wire_case((), TURN), manual_of(LOOK, LOOK, ("if", (0,), (("swap", "g"), ("swap", "g")), ()))), 3)
+        self.assertEqual(needs(wire_case((), TURN), manual_of(LOOK, LOOK,
+                                                              ("if", (0,), (("swap", "g"), ("swap", "g")), ()))), 3)
 
     def test_parts_of_the_bench(self):
         # The part 4, of the bench, and then the part 0, come back on the shelf ahead of the others.

@@ -23,7 +23,8 @@ class ValueTableTest(unittest.TestCase):
 
     def test_a_goal(self):
         case = wire_case((), ZERO, shelf=(2,))
-        self.assertEqual(value_table(case, LOOK, [0, 1]), ((START, (0, 1), 3), (START, (1,), 0), (START, (0,), 0), (SWAPPED, (0, 1), -1)))
+        self.assertEqual(value_table(case, LOOK, [0, 1]), ((START, (0, 1), 3), (START, (1,), 0), (START, (0,), 0),
+                                                           (SWAPPED, (0, 1), -1)))
         self.assertEqual(value_table(case, LOOK, (7, 7)), ((START, (0, 1), 0),))
 
     def test_the_trap(self):
@@ -118,8 +119,10 @@ class JudgeValuesTest(unittest.TestCase):
     def test_rows_that_have_not_their_form(self):
         bad = [None, 7, "row", (), (START, (0, 1)), (START, (0, 1), 3, 0), {}]
         bad += [(told, (0, 1), 3) for told in (
-            None, (), (START[0], START[1]), (*START, ()), ((0,), (1, 2), ()), ((1, 0), (2,), ()), ((0, 0), (2,), ()), ((0, 1), (), ()),
-            ((0, 1), (2, 2), ()), ((False, True), (2,), ()), ((0, 1), (), (("c", 2),)), ((0, 1), (), (("in", 2),)), ((0, 1), (3,), ()),
+            None, (), (START[0], START[1]), (*START, ()), ((0,), (1, 2), ()), ((1, 0), (2,), ()), ((0, 0), (2,), ()),
+            ((0, 1), (), ()),
+            ((0, 1), (2, 2), ()), ((False, True), (2,), ()), ((0, 1), (), (("c", 2),)), ((0, 1), (), (("in", 2),)),
+            ((0, 1), (3,), ()),
             ((0, 1), None, ()), "012", ((0, 1), (), (2,)), ((0, 1), (), (("g", 2, 0),)))]
         bad += [(START, left, 3) for left in (None, 0, (1, 0), (0, 0), (0, 2), (-1,), (0, True), ("0",), "01")]
         bad += [(START, (0, 1), value) for value in (-2, None, "3", True, False, (3,), 3.0)]
@@ -133,7 +136,8 @@ class JudgeValuesTest(unittest.TestCase):
         self.assertIsNone(self.judged(met, (SWAPPED, (0,), 0), goal=(7, 7)))
         for row in bad:
             if isinstance(row, tuple) and len(row) == 3:
-                other = tuple(told if repr(told) != repr(kept) else new for told, kept, new in zip(row, (START, (0, 1), 3), met))
+                other = tuple(told if repr(told) != repr(kept) else new for told, kept,
+                              new in zip(row, (START, (0, 1), 3), met))
                 self.assertEqual(self.judged(met, other, goal=(7, 7)), 1, other)
 
     def test_where_a_node_has_several_rows_the_first_one_tells(self):

@@ -236,16 +236,22 @@ class JudgeTableTest(unittest.TestCase):
         bad = [None, 7, "row", (), first[:4], (*first, 0), {}, (-1, *first[1:]), (5, *first[1:]), (False, *first[1:]),
                ("0", *first[1:]), (None, *first[1:])]
         bad += [(0, told, *first[2:]) for told in (
-            None, (), (placed, shelf), (placed, shelf, bench, ()), (placed, shelf, None), (None, shelf, bench), (placed, None, bench),
-            (shelf[:2], placed, bench), ((0, 1, 2), (3, 4), ()), ((0,), (1, 2, 3, 4), ()), ((1, 0), shelf, bench), ((0, 0), shelf, bench),
-            (placed, (2, 3), bench), (placed, (2, 3, 3), bench), (placed, (2, 3, 4, 5), bench), (placed, (2, 3, True), bench),
-            ((False, 1), shelf, bench), ((0, True), shelf, bench), (placed, ("2", 3, 4), bench), (placed, (2, 3), (("g", 3),)),
+            None, (), (placed, shelf), (placed, shelf, bench, ()), (placed, shelf, None), (None, shelf, bench),
+            (placed, None, bench),
+            (shelf[:2], placed, bench), ((0, 1, 2), (3, 4), ()), ((0,), (1, 2, 3, 4), ()), ((1, 0), shelf, bench),
+            ((0, 0), shelf, bench),
+            (placed, (2, 3), bench), (placed, (2, 3, 3), bench), (placed, (2, 3, 4, 5), bench),
+            (placed, (2, 3, True), bench),
+            ((False, 1), shelf, bench), ((0, True), shelf, bench), (placed, ("2", 3, 4), bench),
+            (placed, (2, 3), (("g", 3),)),
             (placed, (3, 4), (("c", 2),)), (placed, (3, 4), (("g",),)), (placed, (3, 4), (("g", 2, 2),)),
             (placed, (3, 4), (("in", 2),)), (placed, (3, 4), (("odd", 2),)), (placed, (3, 4), ((None, 2),)),
-            (placed, (3, 4), ((["g"], 2),)), (placed, (3, 4), (2,)), (placed, (3, 4), (("g", "2"),)), (placed, shelf, (("g", 2),)),
+            (placed, (3, 4), ((["g"], 2),)), (placed, (3, 4), (2,)), (placed, (3, 4), (("g", "2"),)),
+            (placed, shelf, (("g", 2),)),
             ((4, 2), (0, 1, 3), ()), "012", (placed, "234", bench))]
         bad += [(*first[:2], sign, *first[3:]) for sign in (-2, 2, True, None, "0", (0,))]
-        bad += [(*first[:3], left, first[4]) for left in (None, 0, (1, 0), (0, 0), (0, 2), (-1, 0), (0, True), (False, 1), ("0",), "01",
+        bad += [(*first[:3], left, first[4]) for left in (None, 0, (1, 0), (0, 0), (0, 2), (-1, 0), (0, True),
+                                                          (False, 1), ("0",), "01",
                                                           ((0,),))]
         bad += [(*first[:4], more) for more in (-1, None, "6", True, False, (6,), 6.0)]
         for row in bad:
@@ -262,7 +268,8 @@ class JudgeTableTest(unittest.TestCase):
                 other = tuple(told if repr(told) != repr(kept) else new for told, kept, new in zip(row, first, end))
                 self.assertEqual(self.judged((*self.table, other), strict=False), 4, other)
         # These have their forms, wherever the parts are.
-        for told in (swapped, (placed, (4, 3, 2), ()), (placed, (), (("g", 4), ("c", 3), ("g", 2))), ((4, 3), (1, 0), (("g", 2),))):
+        for told in (swapped, (placed, (4, 3, 2), ()), (placed, (), (("g", 4), ("c", 3), ("g", 2))),
+                     ((4, 3), (1, 0), (("g", 2),))):
             self.assertIsNone(self.judged((*self.table, (4, told, 1, (0,), 0)), strict=False))
 
     def test_arrangements_with_one_bench_and_other_parts_in_the_places(self):
@@ -284,7 +291,8 @@ class JudgeTableTest(unittest.TestCase):
         self.assertEqual([judge_table(case, wired, 0, rows) for rows in (told, told[::-1])], [0, 1])
 
     def test_true_and_false_in_rows(self):
-        table = tuple((step, arrangement, sign, left, 0) for step, arrangement, sign, left in standings_of(self.case, manual_of()))
+        table = tuple((step, arrangement, sign, left, 0) for step, arrangement, sign,
+                      left in standings_of(self.case, manual_of()))
         manual = manual_of()
         self.assertIsNone(judge_table(self.case, manual, 0, table, strict=False))
         self.assertEqual(judge_table(self.case, manual, 0, ((False, *table[0][1:]),), strict=False), -1)

@@ -132,18 +132,22 @@ class DoManualTest(unittest.TestCase):
         self.assertEqual(run.events, (("look", "one", "g", 0), ("swap", "g", 2), ("say", "c", 1), ("look", "two", "c", 1),
                                       ("swap", "c", 3), ("back", "g", 0), DONE))
         self.assertEqual(house.book[7:], (("seen", 7, "m", ((1,), (1,)), ((1, "g", 0),)), ("swap", "m", "g", 2),
-                                          ("seen", 9, "m", ((0,), (0,)), ((1, "c", 1),)), ("swap", "m", "c", 3), ("back", "m", "g")))
+                                          ("seen", 9, "m", ((0,), (0,)), ((1, "c", 1),)), ("swap", "m", "c", 3),
+                                          ("back", "m", "g")))
         floor = house.floor()
-        self.assertEqual((floor.machine("m"), floor.shelf, floor.bench), (("m", "wire", (0, 3), True), (2, 4), (("m", "c", 1),)))
+        self.assertEqual((floor.machine("m"), floor.shelf, floor.bench),
+                         (("m", "wire", (0, 3), True), (2, 4), (("m", "c", 1),)))
 
     def test_a_run_that_asks_a_run_that_lacks_and_an_empty_one(self):
         house = wire_house()
         run = do_manual(house, "m", MANUAL, (0,))
-        self.assertEqual((run.ended, house.book[6:]), ("asks", (("seen", 6, "m", ((1,), (1,)), ((1, "g", 0),)), ("swap", "m", "g", 2))))
+        self.assertEqual((run.ended, house.book[6:]), ("asks", (("seen", 6, "m", ((1,), (1,)), ((1, "g", 0),)),
+                                                                ("swap", "m", "g", 2))))
         run = do_manual(house, "m", manual_of(("swap", "c"), ("swap", "c"), ("swap", "g")), ())
         self.assertEqual((run.ended, house.book[8:]), ("lack", (("swap", "m", "c", 3),)))
         before = house.copy()
-        run = do_manual(house, "m", manual_of(("say", "g"), ("if", (0,), (), ()), ("back", "g"), ("swap", "g"), ("back", "g"), DONE), ())
+        run = do_manual(house, "m", manual_of(("say", "g"), ("if", (0,), (), ()), ("back", "g"), ("swap", "g"),
+                                              ("back", "g"), DONE), ())
         self.assertEqual(house.book[9:], (("back", "m", "g"), ("swap", "m", "g", 2), ("back", "m", "g")))
         self.assertEqual(do_manual(before, "m", MANUAL, ()).ended, "asks")
         self.assertEqual(before.now, 9)

@@ -29,7 +29,8 @@ def slow_house(most=1):
     """A house as the one above, in which nothing comes and goes, and a swap takes longer than a look."""
     kinds = [Kind(kind.signs, kind.name, kind.inputs, kind.table, start=kind.start, price=kind.price,
                   ways=[way for way in kind.ways if way[0] == "stands"]) for kind in WIRE.catalogue]
-    plan = Plan(Catalogue(2, kinds), WIRE.entries, [(*place[:3], minutes) for place, minutes in zip(WIRE.places, (9, 15))], WIRE.exits)
+    plan = Plan(Catalogue(2, kinds), WIRE.entries, [(*place[:3], minutes) for place,
+                                                    minutes in zip(WIRE.places, (9, 15))], WIRE.exits)
     house = House(plan.catalogue, (("wire", plan),), most=most)
     house.enter(*COMES, ("build", "m", "wire", (0, 1)))
     return house
@@ -38,7 +39,8 @@ def slow_house(most=1):
 def ways_house(ways, most):
     """A house with a part for each number of ways; the first one is in the machine `m`, and a part without ways in `n`."""
     kinds = [Kind(2, "k" + "abcdefg"[many], 1, (0, 1), ways=[
-        ("stands", "abcdef"[at], tuple(told)) for at, told in enumerate(((1, 1), (0, 0), (1, 0))[:many])]) for many in range(4)]
+        ("stands", "abcdef"[at], tuple(told)) for at, told in enumerate(((1, 1), (0, 0),
+                                                                         (1, 0))[:many])]) for many in range(4)]
     wide = [Kind(2, "k" + "abcdefg"[many], 2, (0, 0, 0, 0), ways=[
         ("stands", "abcdef"[at], tuple(int(spot in (at % 4, at // 2)) for spot in range(4))) for at in range(many)])
         for many in (4, 5, 6)]
@@ -75,11 +77,17 @@ def plain_filling(house, machine, world):
     return dict(house.plans)[plan], tuple((kinds[part], condition(world[part], day)) for part in parts)
 
 
+ACTED = {}
+
+
 def plain_acts(plan, filling):
-    """Whether a filling acts as whole."""
-    kinds = [kind for kind, _ in filling]
-    case = Case(plan, kinds, tuple(range(len(kinds))), (), (tuple(condition for _, condition in filling),))
-    return Judge(case, Manual((), (("x", ()),))).acts(case.arrangement, 0)
+    """Whether a filling acts as whole; what was found out is kept, with the plan, so that no other one has its number."""
+    told = (id(plan), filling)
+    if told not in ACTED:
+        kinds = [kind for kind, _ in filling]
+        case = Case(plan, kinds, tuple(range(len(kinds))), (), (tuple(condition for _, condition in filling),))
+        ACTED[told] = (plan, Judge(case, Manual((), (("x", ()),))).acts(case.arrangement, 0))
+    return ACTED[told][1]
 
 
 def any_wire_house(chance, tries, most):
@@ -114,5 +122,6 @@ def many_wire_houses(seed, many):
     return found
 
 
-MANUAL = Manual(TESTS, (("main", (("look", "one", "g"), ("if", (0,), (("swap", "g"), ("say", "c")), ()), ("look", "two", "c"),
+MANUAL = Manual(TESTS, (("main", (("look", "one", "g"), ("if", (0,), (("swap", "g"), ("say", "c")), ()),
+                                  ("look", "two", "c"),
                                   ("if", (1,), (("swap", "c"), ("back", "g")), ()), ("done",))),))
