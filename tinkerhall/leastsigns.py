@@ -20,5 +20,6 @@ def least_signs(field):
                 if other not in met:
                     met[other] = True
                     behind.append(((*signs, sign), other))
-        level = behind
+        # A list of its own, so that what the loop walks is never what is appended to.
+        level = list(behind)
     return None
